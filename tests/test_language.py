@@ -1,0 +1,253 @@
+"""The rules of LANGUAGE.md that can be told from the code of the package alone.
+
+Not all rules are checked here: what is not looked at still has to be kept.
+"""
+
+import ast
+import pathlib
+import re
+import unittest
+
+FOLDER = pathlib.Path(__file__).resolve().parent.parent / "whoseday"
+
+# What the interface lists, file by file, for the files that have landed.
+INTERFACE = {
+    "errors.py": {
+        "WhosedayError": [], "BadText": [], "BadName": [], "NoZone": [], "NoProgram": [],
+        "NoRoute": [], "BadPiece": [], "BadNumber": [], "TooMany": [], "NothingToUndo": [],
+        "BadKind": [], "BadRule": [], "BadOffsets": [], "NoHours": [], "BadChange": [],
+        "BadLook": [], "TooWide": [], "NotTogether": [], "BadEntry": [], "OtherPrograms": [],
+        "OtherRoutes": [], "NotARing": [], "NotHeld": [], "BadDeed": [],
+    },
+    "entries.py": {"Entry": ["__init__", "__eq__", "__add__", "__sub__"]},
+    "nets.py": {"Net": [
+        "__init__", "__eq__", "offset_of", "home_of", "targets_of", "rule_of", "with_zone",
+        "with_offset", "with_program", "without_program", "with_home", "with_rule", "with_route",
+        "without_route",
+    ]},
+}
+
+LIBRARY = {
+    "heapq": {"heappush", "heappop", "heapify", "heapreplace", "heappushpop"},
+    "math": {"gcd", "lcm", "isqrt", "comb", "perm", "factorial"},
+    "itertools": {"product", "combinations", "permutations"},
+}
+BUILTINS = set("""
+    len range enumerate zip min max sum abs sorted reversed int str bool list tuple dict set
+    frozenset isinstance ord repr any all divmod map iter next super property staticmethod
+    classmethod bytes Exception ValueError TypeError KeyError IndexError LookupError
+    ZeroDivisionError ArithmeticError OverflowError RuntimeError NotImplementedError
+    AttributeError StopIteration NotImplemented
+""".split())
+ALL_BUILTINS = set(dir(__builtins__) if not isinstance(__builtins__, dict) else __builtins__)
+BUILTIN_METHODS = {
+    name for kind in (str, int, list, dict, tuple, set, bytes) for name in dir(kind)
+    if not name.startswith("__")
+}
+ALLOWED_METHODS = set("""
+    append clear copy count endswith extend find get index insert isalnum isalpha isdigit islower
+    isspace isupper items join keys ljust lower lstrip partition pop remove replace reverse rfind
+    rjust rpartition rsplit rstrip setdefault split splitlines startswith strip update upper
+    values zfill bit_length title capitalize swapcase casefold center expandtabs removeprefix
+    removesuffix rindex isascii isdecimal isnumeric istitle isidentifier isprintable translate
+    sort add discard
+""".split())
+DUNDERS = set("""
+    init eq repr str len enter exit call iter lt le gt ge ne add sub mul floordiv mod pow and or
+    xor lshift rshift radd rsub rmul rfloordiv rmod rand ror rxor rlshift rrshift iadd isub imul
+    ifloordiv imod ipow iand ior ixor ilshift irshift neg pos invert abs bool contains getitem
+    setitem
+""".split())
+NEVER = {"register", "mro", "elements", "open", "input", "law", "version_info", "with_traceback", "add_note"}
+NO_VARIABLES = set("""
+    attrgetter breakpoint builtins compile copyright credits delattr dir eval exec exit gc getattr
+    globals hasattr help id importlib license locals methodcaller os quit setattr super type vars
+    sys
+""".split())
+NO_WORDS = set("""
+    typing typing_extensions enum Enum IntEnum StrEnum Flag IntFlag Generic Protocol ABC ABCMeta
+    namedtuple NamedTuple TypedDict TYPE_CHECKING abstractmethod
+""".split())
+NO_NODES = (
+    ast.Global, ast.AsyncFunctionDef, ast.AsyncFor, ast.AsyncWith, ast.Await, ast.Div, ast.MatMult,
+    ast.MatchClass, ast.MatchMapping, ast.TryStar, ast.Import,
+)
+
+
+def trees():
+    found = {}
+    for path in sorted(FOLDER.glob("*.py")):
+        found[path.name] = ast.parse(path.read_text(encoding="utf-8"))
+    return found
+
+
+def functions(tree):
+    return [node for node in ast.walk(tree) if isinstance(node, ast.FunctionDef)]
+
+
+def bound_names(tree):
+    """The names that functions, classes, parameters, imports and assignments of a file bind."""
+    found = []
+    for node in ast.walk(tree):
+        if isinstance(node, (ast.FunctionDef, ast.ClassDef)):
+            found.append(node.name)
+        elif isinstance(node, ast.arg):
+            found.append(node.arg)
+        elif isinstance(node, ast.Name) and isinstance(node.ctx, ast.Store):
+            found.append(node.id)
+        elif isinstance(node, ast.ImportFrom):
+            found.extend(alias.asname or alias.name for alias in node.names)
+        elif isinstance(node, ast.ExceptHandler) and node.name:
+            found.append(node.name)
+    return found
+
+
+def methods(tree):
+    return {
+        node.name for part in ast.walk(tree) if isinstance(part, ast.ClassDef)
+        for node in part.body if isinstance(node, ast.FunctionDef)
+    }
+
+
+class LanguageTest(unittest.TestCase):
+
+    def test_the_folder_holds_plain_files_only(self):
+        for path in FOLDER.iterdir():
+            if path.name != "__pycache__":
+                self.assertTrue(path.is_file(), path)
+                self.assertRegex(path.name, r"\A(?:__init__|__main__|[a-z][a-z0-9_]*)\.py\Z")
+                self.assertNotIn(path.stem, ALL_BUILTINS)
+                self.assertNotRegex(path.stem, r"\A(?:law_|test|site\Z|conftest\Z)")
+
+    def test_signs_and_sizes(self):
+        for path in FOLDER.glob("*.py"):
+            text = path.read_text(encoding="utf-8")
+            self.assertRegex(text, r"\A[ -~\n]*\Z", path)
+            self.assertLessEqual(len(text.splitlines()), 399, path)
+            self.assertLessEqual(max(len(line) for line in text.splitlines()), 120, path)
+            self.assertNotIn("_wall", text, path)
+        for name, tree in trees().items():
+            for node in functions(tree):
+                self.assertLessEqual(node.end_lineno - node.lineno + 1, 40, (name, node.name))
+
+    def test_imports(self):
+        files = trees()
+        for name, tree in files.items():
+            for node in ast.walk(tree):
+                if isinstance(node, ast.ImportFrom):
+                    self.assertEqual(node.level, 0, name)
+                    package, _, module = node.module.partition(".")
+                    for alias in node.names:
+                        self.assertIsNone(alias.asname, name)
+                        if package == "whoseday":
+                            self.assert_defined(files, f"{module}.py", alias.name)
+                        else:
+                            self.assertIn(alias.name, LIBRARY[node.module], name)
+
+    def assert_defined(self, files, file, name):
+        defined = set()
+        for node in files[file].body:
+            if isinstance(node, (ast.FunctionDef, ast.ClassDef)):
+                defined.add(node.name)
+            elif isinstance(node, ast.Assign):
+                defined.update(target.id for target in node.targets)
+        self.assertIn(name, defined, file)
+
+    def test_no_files_import_from_each_other(self):
+        leads = {}
+        for name, tree in trees().items():
+            leads[name] = {
+                f"{node.module.partition('.')[2]}.py" for node in ast.walk(tree)
+                if isinstance(node, ast.ImportFrom) and node.module.startswith("whoseday.")
+            }
+        while leads:
+            free = [name for name in leads if not leads[name] & set(leads)]
+            self.assertTrue(free, f"in a ring: {sorted(leads)}")
+            for name in free:
+                del leads[name]
+
+    def test_interface_stands_in_its_files(self):
+        files = trees()
+        for file, listed in INTERFACE.items():
+            found = {
+                node.name: node for node in files[file].body
+                if isinstance(node, (ast.FunctionDef, ast.ClassDef))
+            }
+            for name, wanted in listed.items():
+                self.assertIn(name, found, file)
+                inside = [part.name for part in getattr(found[name], "body") if isinstance(part, ast.FunctionDef)]
+                self.assertEqual(set(wanted) - set(inside), set(), name)
+
+    def test_module_level(self):
+        plain = (ast.FunctionDef, ast.ClassDef, ast.ImportFrom, ast.Assign)
+        for name, tree in trees().items():
+            for at, node in enumerate(tree.body):
+                docstring = at == 0 and isinstance(node, ast.Expr) and isinstance(node.value, ast.Constant)
+                self.assertTrue(docstring or isinstance(node, plain), (name, node.lineno))
+
+    def test_statements_and_values(self):
+        for name, tree in trees().items():
+            for node in ast.walk(tree):
+                where = (name, getattr(node, "lineno", None), type(node).__name__)
+                self.assertNotIsInstance(node, NO_NODES, where)
+                if isinstance(node, ast.Constant):
+                    self.assertNotIsInstance(node.value, (float, complex), where)
+                    if isinstance(node.value, str):
+                        self.assertNotIn("%", node.value, where)
+                if isinstance(node, (ast.FunctionDef, ast.ClassDef)):
+                    for mark in node.decorator_list:
+                        self.assertRegex(ast.unparse(mark), r"\A(property|staticmethod|classmethod|\w+\.setter)\Z")
+
+    def test_builtins(self):
+        for name, tree in trees().items():
+            for node in ast.walk(tree):
+                if isinstance(node, ast.Name) and node.id in ALL_BUILTINS:
+                    self.assertIn(node.id, BUILTINS, (name, node.lineno))
+
+    def test_methods_of_builtin_values(self):
+        own = set().union(*[methods(tree) for tree in trees().values()])
+        for name, tree in trees().items():
+            for node in ast.walk(tree):
+                if isinstance(node, ast.Call) and isinstance(node.func, ast.Attribute):
+                    called = node.func.attr
+                    if called in BUILTIN_METHODS and called not in own:
+                        self.assertIn(called, ALLOWED_METHODS, (name, node.lineno))
+                        if called != "sort":
+                            self.assertEqual(node.keywords, [], (name, node.lineno))
+
+    def test_names(self):
+        for name, tree in trees().items():
+            inside = methods(tree)
+            for bound in bound_names(tree):
+                self.assertNotIn(bound, NEVER | NO_VARIABLES, name)
+                if bound not in inside:
+                    self.assertNotIn(bound, ALL_BUILTINS, name)
+                if bound.startswith("__"):
+                    self.assertIn(bound.strip("_"), DUNDERS, name)
+            for node in ast.walk(tree):
+                if isinstance(node, ast.Attribute):
+                    self.assertNotIn(node.attr, NEVER, (name, node.lineno))
+                if isinstance(node, ast.Name) and isinstance(node.ctx, ast.Load):
+                    self.assertNotEqual(node.id, "_", (name, node.lineno))
+                if isinstance(node, (ast.Name, ast.Attribute)):
+                    self.assertNotIn(getattr(node, "id", None) or getattr(node, "attr", None), NO_WORDS, name)
+
+    def test_words_in_strings(self):
+        for name, tree in trees().items():
+            for node in ast.walk(tree):
+                if isinstance(node, ast.Constant) and isinstance(node.value, str) and " " not in node.value:
+                    self.assertEqual(set(re.findall(r"\w+", node.value)) & NO_WORDS, set(), name)
+
+    def test_handlers_name_their_errors(self):
+        barred = {"Exception", "TypeError", "ArithmeticError", "OverflowError", "RuntimeError",
+                  "NotImplementedError", "AttributeError", "BaseException"}
+        for name, tree in trees().items():
+            for node in ast.walk(tree):
+                if isinstance(node, ast.ExceptHandler):
+                    self.assertIsNotNone(node.type, name)
+                    caught = {part.id for part in ast.walk(node.type) if isinstance(part, ast.Name)}
+                    self.assertEqual(caught & barred, set(), name)
+
+
+if __name__ == "__main__":
+    unittest.main()

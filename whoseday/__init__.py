@@ -1,0 +1,1 @@
+"""Whoseday: on which day an entry shows when programs copy it for ever."""
