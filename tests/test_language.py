@@ -25,6 +25,17 @@ INTERFACE = {
         "with_offset", "with_program", "without_program", "with_home", "with_rule", "with_route",
         "without_route",
     ]},
+    "copies.py": {
+        "clock": [], "shown": [], "copied": [], "along": [], "carried": [], "moved_days": [],
+    },
+    "states.py": {"States": [
+        "__init__", "__len__", "__contains__", "__iter__", "index_of", "at", "lead", "way",
+    ]},
+    "homes.py": {"comes_home": [], "strays": [], "settles": [], "Settled": ["days_after", "still"]},
+    "pieces.py": {"Days": [
+        "__init__", "__contains__", "__add__", "__or__", "least", "greatest", "goes_down", "goes_up",
+        "next_from", "next_to", "moved", "same",
+    ]},
 }
 
 LIBRARY = {
@@ -72,6 +83,8 @@ NO_NODES = (
     ast.Global, ast.AsyncFunctionDef, ast.AsyncFor, ast.AsyncWith, ast.Await, ast.Div, ast.MatMult,
     ast.MatchClass, ast.MatchMapping, ast.TryStar, ast.Import,
 )
+# They may stand nowhere as long as an object with a length is iterated over (L2 Products).
+NO_PRODUCTS = {"product", "combinations", "permutations"}
 
 
 def trees():
@@ -142,7 +155,7 @@ class LanguageTest(unittest.TestCase):
                         if package == "whoseday":
                             self.assert_defined(files, f"{module}.py", alias.name)
                         else:
-                            self.assertIn(alias.name, LIBRARY[node.module], name)
+                            self.assertIn(alias.name, LIBRARY[node.module] - NO_PRODUCTS, name)
 
     def assert_defined(self, files, file, name):
         defined = set()

@@ -1,0 +1,171 @@
+"""Which walks lead a point of an entry back to what it was at first."""
+
+from whoseday.entries import DAY
+from whoseday.errors import BadNumber, NoRoute, NotARing, TooMany
+from whoseday.graphs import (
+    backward, cost_of, falling_ring, kept_inside, least_costs, reached_from, short_way, traced, turned_costs,
+)
+from whoseday.points import Copier, minutes_of, need_point
+from whoseday.states import States
+from whoseday.words import is_integer
+
+MOST_LAPS = 1000
+
+
+class Settled:
+    """What becomes of a point that is copied along a ring for ever.
+
+    Callers do not make it. days are the moved days behind each lap ahead of
+    the one that leads the point into a state for the second time.
+    """
+
+    def __init__(self, days, laps, gain, still):
+        self._days = tuple(days)
+        self._still = still
+        self.laps = laps
+        self.period = len(days) - laps
+        self.gain = gain
+
+    def days_after(self, n):
+        """The moved days behind the row and n laps."""
+        if not is_integer(n) or n < 0:
+            raise BadNumber(n)
+        if n < self.laps:
+            return self._days[n]
+        turns, rest = divmod(n - self.laps, self.period)
+        return self._days[self.laps + rest] + turns * self.gain
+
+    @property
+    def still(self):
+        """Tells whether the point is shown on one day for ever from some copy on."""
+        return self._still
+
+
+def comes_home(net, p, entry, end):
+    """A walk in blocks by which the point comes home; None if there is none."""
+    states = States(net, p, entry, end)
+    # Steps that cannot lead back to the first state are of no use.
+    rows = kept_inside(states.steps, reached_from(backward(states.steps), [0]))
+    falling = falling_ring(rows)
+    rising = falling_ring(turned_costs(rows))
+    if falling is not None and rising is not None:
+        blocks = _balanced(rows, rising, falling)
+    else:
+        way = _cheapest_ring(rows if falling is None else turned_costs(rows))
+        if way is None or cost_of(rows, way) != 0:
+            return None
+        blocks = [(way, 1)]
+    return _named(states, blocks)
+
+
+def strays(net, p, entry, end):
+    """The row of a shortest walk that ends at p, not home; None if there is none."""
+    states = States(net, p, entry, end)
+    line = [(0, 0)]
+    before = [None]
+    days_at = [[] for _ in states.found]
+    days_at[0].append(0)
+    at = 0
+    while at < len(line):
+        node, moved = line[at]
+        for goal, days, _ in states.steps[node]:
+            # Two numbers of days are enough: one of them at least strays later
+            # on, if a third one would, and no later.
+            if len(days_at[goal]) < 2 and moved + days not in days_at[goal]:
+                days_at[goal].append(moved + days)
+                line.append((goal, moved + days))
+                before.append(at)
+                if states.found[goal][0] == p and (goal, moved + days) != (0, 0):
+                    way = [line[spot][0] for spot in traced(before, 0, len(line) - 1)]
+                    return _row(states, way)
+        at += 1
+    return None
+
+
+def settles(net, p, row, ring, entry, end):
+    """What becomes of the point along row and then along ring again and again."""
+    need_point(net, p, entry, end)
+    names = [p, *row, *ring]
+    for index in range(1, len(names)):
+        if not isinstance(names[index], str) or (names[index - 1], names[index]) not in net.routes:
+            raise NoRoute(index - 1)
+    if len(ring) == 0 or names[-1] != names[len(row)]:
+        raise NotARing(tuple(ring))
+    copier = Copier(net, end)
+    minutes = minutes_of(entry.kind, entry.last if end == 1 else entry.first)
+    first_day = copier.day(p, entry.kind, entry.zone, minutes)
+    point, _ = _lap(copier, row, (entry.kind, entry.zone, minutes))
+    return _settled(copier, names[len(row)], ring, point, first_day)
+
+
+def _settled(copier, q, ring, point, first_day):
+    """The Settled of a point at q that is copied along a ring back to q."""
+    numbers = {}
+    days = []
+    shown = []
+    for lap in range(MOST_LAPS + 1):
+        kind, zone, minutes = point
+        day = copier.day(q, kind, zone, minutes)
+        state = (kind, zone, minutes % DAY)
+        if state in numbers:
+            laps = numbers[state]
+            gain = day - first_day - days[laps]
+            still = gain == 0 and len({one for pair in shown[laps:] for one in pair}) == 1
+            return Settled(days, laps, gain, still)
+        numbers[state] = lap
+        days.append(day - first_day)
+        point, seen = _lap(copier, ring, point)
+        shown.append(seen)
+    raise TooMany(MOST_LAPS)
+
+
+def _lap(copier, names, point):
+    """The point behind copies along names, and the days on which it shows, least and greatest."""
+    kind, zone, minutes = point
+    days = []
+    for q in names:
+        kind, zone, minutes = copier.carry(q, kind, zone, minutes)
+        days.append(copier.day(q, kind, zone, minutes))
+    return (kind, zone, minutes), (min(days, default=0), max(days, default=0))
+
+
+def _cheapest_ring(rows):
+    """A way of least cost from node 0 back to it, by one step or more; None if there is none."""
+    costs, before = least_costs(rows, 0)
+    best = None
+    for node, row in enumerate(rows):
+        for step in row:
+            if step[0] == 0 and costs[node] is not None:
+                if best is None or costs[node] + step[1] < best[0]:
+                    best = (costs[node] + step[1], node)
+    return None if best is None else [*traced(before, 0, best[1]), 0]
+
+
+def _balanced(rows, rising, falling):
+    """Ways with times that lead from node 0 back to it, with a cost of 0 in all.
+
+    The way to both rings and back is gone so often that turns of both rings
+    make up for its cost.
+    """
+    out = short_way(rows, 0, rising[0])
+    across = [*short_way(rows, rising[0], 0), *short_way(rows, 0, falling[0])[1:]]
+    home = short_way(rows, falling[0], 0)
+    loop = [*out, *across[1:], *home[1:]]
+    cost = cost_of(rows, loop)
+    up = cost_of(rows, rising)
+    down = -cost_of(rows, falling)
+    # up * cost + (many * down - cost) * up - many * up * down is 0.
+    many = max(1, (cost + down) // down)
+    return [
+        (loop, up - 1), (out, 1), (rising, many * down - cost), (across, 1), (falling, many * up), (home, 1),
+    ]
+
+
+def _row(states, way):
+    """The names of the programs to which a way of states leads."""
+    return tuple([states.found[node][0] for node in way[1:]])
+
+
+def _named(states, blocks):
+    """The walk in blocks of ways with times; those that lead nowhere are left out."""
+    return tuple([(_row(states, way), times) for way, times in blocks if len(way) > 1 and times > 0])
