@@ -192,3 +192,39 @@ def random_entry(rng, net, step=360):
     last = first + rng.choice([0, 1, 59, 719, 1440])
     zone = f" {rng.choice(net.zones)}" if kind == "zoned" else ""
     return Entry(f"{kind} {first} to {last}{zone}")
+
+
+def turning_net(rng, programs=4, routes=8):
+    """A net in which days become moments and moments days, so that days are gained and lost."""
+    lines = [f"zone {zone} {rng.choice([-840, -719, -300, 0, 1, 300, 721, 840])}" for zone in "abcd"]
+    names = ["p", "q", "r", "s", "t", "u", "v", "w"][:programs]
+    for name in names:
+        lines.append(f"program {name} at {rng.choice('abcd')}")
+        if rng.random() < 0.8:
+            early, late = sorted([rng.choice([0, 300, 720, 1439]) for _ in range(2)])
+            lines.append(f"  day -> fixed {early} {late}")
+        if rng.random() < 0.8:
+            lines.append("  fixed -> day")
+    pairs = [(one, other) for one in names for other in names]
+    rng.shuffle(pairs)
+    for one, other in pairs[:routes]:
+        lines.append(f"route {one} {other}")
+    return Net("\n".join(lines))
+
+
+def random_rows(rng, most=8, wide=3):
+    """A graph whose rows are (goal, cost, name), with rings of all sorts."""
+    many = rng.randint(1, most)
+    share = rng.choice([0.15, 0.2, 0.3, 0.5])
+    sign = rng.choice([-1, 0, 0, 1, 1, -1])
+    rows = []
+    for _ in range(many):
+        row = []
+        for goal in range(many):
+            if rng.random() < share:
+                cost = 0 if rng.random() < 0.3 else rng.randint(-wide, wide)
+                if sign != 0 and rng.random() < 0.9:
+                    cost = sign * abs(cost)
+                row.append((goal, cost, "x"))
+        rows.append(tuple(row))
+    return rows

@@ -5,6 +5,7 @@ import unittest
 
 from tests.plain import (
     gone, held, plain_along, plain_copy, plain_reach, plain_shown, plain_state, plain_states, random_entry, random_net,
+    turning_net,
 )
 from tests.test_states import DAY, MORE, N, field_of, is_same, wrong_points
 from tests.values import no_names, odd_values
@@ -86,6 +87,13 @@ class ComesHomeTest(Homes):
                 kinds["turns"] += 1
         self.assertGreater(min(kinds.values()), 5, kinds)
 
+    def test_nets_that_turn_days_into_moments(self):
+        rng = random.Random(16)
+        found = [
+            self.check(turning_net(rng, rng.randint(2, 5), rng.randint(2, 9)), "p", DAY, rng.randint(0, 1), 25) for _ in range(300)
+        ]
+        self.assertGreater(len([one for one in found if one is not None and len(one) > 1]), 10)
+
     def test_long_rings_of_unlike_gains(self):
         # One ring gains 13 minutes a lap, the other one loses 7: 1440 laps each, but the states are shared.
         net = Net(
@@ -134,6 +142,12 @@ class StraysTest(unittest.TestCase):
             found = self.check(net, rng.choice(net.programs), entry, rng.randint(0, 1), 25)
             lengths.add(None if found is None else len(found))
         self.assertTrue({None, 1, 2, 3, 4} <= lengths, lengths)
+
+    def test_nets_that_turn_days_into_moments(self):
+        rng = random.Random(17)
+        for _ in range(500):
+            net = turning_net(rng, rng.randint(2, 6), rng.randint(2, 9))
+            self.check(net, "p", DAY, rng.randint(0, 1), 25)
 
     def test_home_by_days_that_make_up_for_one_another(self):
         # Each round moves a day forth and back; only the ring between q and r moves the days for good.

@@ -36,6 +36,13 @@ INTERFACE = {
         "__init__", "__contains__", "__add__", "__or__", "least", "greatest", "goes_down", "goes_up",
         "next_from", "next_to", "moved", "same",
     ]},
+    "days.py": {"days_at": [], "can_show": [], "drift": [], "after": [], "growth": []},
+    "unknown.py": {"as_shown": [], "added": []},
+    "spreads.py": {
+        "Origin": ["__init__", "__eq__", "room"], "origins": [], "spread": [], "sums": [], "spread_walk": [],
+        "spread_table": [],
+    },
+    "bands.py": {"is_right": [], "widest": [], "wrong": [], "right_minutes": [], "right_hours": []},
 }
 
 LIBRARY = {
@@ -156,6 +163,14 @@ class LanguageTest(unittest.TestCase):
                             self.assert_defined(files, f"{module}.py", alias.name)
                         else:
                             self.assertIn(alias.name, LIBRARY[node.module] - NO_PRODUCTS, name)
+
+    def test_each_import_is_used(self):
+        for name, tree in trees().items():
+            used = {node.id for node in ast.walk(tree) if isinstance(node, ast.Name)}
+            for node in ast.walk(tree):
+                if isinstance(node, ast.ImportFrom):
+                    for alias in node.names:
+                        self.assertIn(alias.name, used, name)
 
     def assert_defined(self, files, file, name):
         defined = set()

@@ -133,3 +133,52 @@ def _ring_in(before):
                 ring.append(before[ring[-1]])
             return ring[::-1]
     return None
+
+
+def part_of(rows, nodes):
+    """The graph of some nodes and the steps between them; its nodes are their places in nodes."""
+    places = {node: place for place, node in enumerate(nodes)}
+    return [[(places[step[0]], step[1]) for step in rows[node] if step[0] in places] for node in nodes]
+
+
+def components(rows):
+    """The lists of the nodes from each of which ways lead to all others of the list, and back.
+
+    A list comes ahead of those to which ways lead from it.
+    """
+    back = backward(rows)
+    taken = [False for _ in rows]
+    found = []
+    for root in _left_in_order(rows)[::-1]:
+        if not taken[root]:
+            taken[root] = True
+            nodes = [root]
+            at = 0
+            while at < len(nodes):
+                for step in back[nodes[at]]:
+                    if not taken[step[0]]:
+                        taken[step[0]] = True
+                        nodes.append(step[0])
+                at += 1
+            found.append(nodes)
+    return found
+
+
+def _left_in_order(rows):
+    """The nodes in the order in which a search that goes deep first leaves them for good."""
+    seen = [False for _ in rows]
+    left = []
+    for root in range(len(rows)):
+        stack = [] if seen[root] else [(root, 0)]
+        seen[root] = True
+        while stack:
+            node, at = stack.pop()
+            if at == len(rows[node]):
+                left.append(node)
+            else:
+                stack.append((node, at + 1))
+                goal = rows[node][at][0]
+                if not seen[goal]:
+                    seen[goal] = True
+                    stack.append((goal, 0))
+    return left

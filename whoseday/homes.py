@@ -2,11 +2,10 @@
 
 from whoseday.entries import DAY
 from whoseday.errors import BadNumber, NoRoute, NotARing, TooMany
-from whoseday.graphs import (
-    backward, cost_of, falling_ring, kept_inside, least_costs, reached_from, short_way, traced, turned_costs,
-)
+from whoseday.graphs import backward, cost_of, falling_ring, kept_inside, reached_from, traced, turned_costs
 from whoseday.points import Copier, minutes_of, need_point
-from whoseday.states import States
+from whoseday.rings import balanced_ring, cheapest_ring
+from whoseday.states import States, named_blocks, names_on
 from whoseday.words import is_integer
 
 MOST_LAPS = 1000
@@ -49,13 +48,13 @@ def comes_home(net, p, entry, end):
     falling = falling_ring(rows)
     rising = falling_ring(turned_costs(rows))
     if falling is not None and rising is not None:
-        blocks = _balanced(rows, rising, falling)
+        blocks = balanced_ring(rows, 0, rising, falling)
     else:
-        way = _cheapest_ring(rows if falling is None else turned_costs(rows))
+        way = cheapest_ring(rows if falling is None else turned_costs(rows), 0)
         if way is None or cost_of(rows, way) != 0:
             return None
         blocks = [(way, 1)]
-    return _named(states, blocks)
+    return named_blocks(states, blocks)
 
 
 def strays(net, p, entry, end):
@@ -77,7 +76,7 @@ def strays(net, p, entry, end):
                 before.append(at)
                 if states.found[goal][0] == p and (goal, moved + days) != (0, 0):
                     way = [line[spot][0] for spot in traced(before, 0, len(line) - 1)]
-                    return _row(states, way)
+                    return names_on(states, way)
         at += 1
     return None
 
@@ -127,45 +126,3 @@ def _lap(copier, names, point):
         kind, zone, minutes = copier.carry(q, kind, zone, minutes)
         days.append(copier.day(q, kind, zone, minutes))
     return (kind, zone, minutes), (min(days, default=0), max(days, default=0))
-
-
-def _cheapest_ring(rows):
-    """A way of least cost from node 0 back to it, by one step or more; None if there is none."""
-    costs, before = least_costs(rows, 0)
-    best = None
-    for node, row in enumerate(rows):
-        for step in row:
-            if step[0] == 0 and costs[node] is not None:
-                if best is None or costs[node] + step[1] < best[0]:
-                    best = (costs[node] + step[1], node)
-    return None if best is None else [*traced(before, 0, best[1]), 0]
-
-
-def _balanced(rows, rising, falling):
-    """Ways with times that lead from node 0 back to it, with a cost of 0 in all.
-
-    The way to both rings and back is gone so often that turns of both rings
-    make up for its cost.
-    """
-    out = short_way(rows, 0, rising[0])
-    across = [*short_way(rows, rising[0], 0), *short_way(rows, 0, falling[0])[1:]]
-    home = short_way(rows, falling[0], 0)
-    loop = [*out, *across[1:], *home[1:]]
-    cost = cost_of(rows, loop)
-    up = cost_of(rows, rising)
-    down = -cost_of(rows, falling)
-    # up * cost + (many * down - cost) * up - many * up * down is 0.
-    many = max(1, (cost + down) // down)
-    return [
-        (loop, up - 1), (out, 1), (rising, many * down - cost), (across, 1), (falling, many * up), (home, 1),
-    ]
-
-
-def _row(states, way):
-    """The names of the programs to which a way of states leads."""
-    return tuple([states.found[node][0] for node in way[1:]])
-
-
-def _named(states, blocks):
-    """The walk in blocks of ways with times; those that lead nowhere are left out."""
-    return tuple([(_row(states, way), times) for way, times in blocks if len(way) > 1 and times > 0])

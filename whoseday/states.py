@@ -73,6 +73,16 @@ class States:
         return tuple(names[::-1])
 
 
+def names_on(states, way):
+    """The row of a way of states: the names of the programs to which the entry is copied."""
+    return tuple([states.found[index][0] for index in way[1:]])
+
+
+def named_blocks(states, blocks):
+    """The walk in blocks that ways with times tell; those without copies are left out."""
+    return tuple([(names_on(states, way), times) for way, times in blocks if len(way) > 1 and times > 0])
+
+
 def _reached(net, first, end):
     """The reached states and the steps from each of them, in their order."""
     copier = Copier(net, end)

@@ -1,0 +1,93 @@
+"""On which days an entry can show at a program, over all walks."""
+
+from math import gcd
+
+from whoseday.errors import BadNumber
+from whoseday.graphs import cost_of, falling_ring, turned_costs
+from whoseday.pieces import Days
+from whoseday.rings import Rings
+from whoseday.states import States, named_blocks, names_on
+from whoseday.totals import Totals
+from whoseday.words import is_integer
+
+MOST_COPIES = 60
+
+
+def days_at(net, p, entry, q, end):
+    """The set of the moved days of the point on all walks from p to q."""
+    states = _states(net, p, entry, q, end)
+    return Days(Totals(states.steps).pieces(states.at(q)))
+
+
+def can_show(net, p, entry, q, end, day):
+    """A walk in blocks from p to q with so many moved days; None if there is none."""
+    states = _states(net, p, entry, q, end)
+    if not is_integer(day):
+        raise BadNumber(day)
+    blocks = Totals(states.steps).blocks(states.at(q), day)
+    return None if blocks is None else named_blocks(states, blocks)
+
+
+def drift(net, p, entry, end):
+    """A way and a ring that moves the point by days; None if it shows on finitely many days."""
+    states = States(net, p, entry, end)
+    rings = Rings(states.steps)
+    for ring in [*rings.rising, *rings.falling]:
+        if ring is not None:
+            return states.way(ring[0]), names_on(states, ring)
+    return None
+
+
+def after(net, p, entry, q, end, n):
+    """The least and the greatest moved days on walks of n copies from p to q; None if there are none."""
+    states = _states(net, p, entry, q, end)
+    if not is_integer(n) or not 0 <= n <= MOST_COPIES:
+        raise BadNumber(n)
+    spans = {0: (0, 0)}
+    for _ in range(n):
+        spans = _later(states.steps, spans)
+    found = [spans[node] for node in states.at(q) if node in spans]
+    return (min([low for low, _ in found]), max([high for _, high in found])) if found else None
+
+
+def growth(net, p, entry, end):
+    """The least and the greatest mean of days for each copy, as pairs, among all rings; None without rings."""
+    states = States(net, p, entry, end)
+    least = _least_mean(states.steps)
+    if least is None:
+        return None
+    most, copies = _least_mean(turned_costs(states.steps))
+    return least, (-most, copies)
+
+
+def _states(net, p, entry, q, end):
+    """The reached states, behind the errors for both programs, the zone and the end."""
+    net.home_of(p)
+    net.home_of(q)
+    return States(net, p, entry, end)
+
+
+def _later(steps, spans):
+    """For each state the least and the greatest moved days behind one copy more."""
+    found = {}
+    for node, (low, high) in spans.items():
+        for goal, days, _ in steps[node]:
+            least, most = found.get(goal, (low + days, high + days))
+            found[goal] = (min(least, low + days), max(most, high + days))
+    return found
+
+
+def _least_mean(rows):
+    """The least mean of the costs of a ring by its steps, as a pair in lowest terms; None without rings."""
+    ring = falling_ring([[(step[0], -1) for step in row] for row in rows])
+    if ring is None:
+        return None
+    cost = 0
+    copies = 1
+    while ring is not None:
+        cost = cost_of(rows, ring)
+        copies = len(ring) - 1
+        # Only rings with a lesser mean fall by these costs.
+        ring = falling_ring([[(step[0], step[1] * copies - cost) for step in row] for row in rows])
+    common = gcd(cost, copies)
+    return cost // common, copies // common
