@@ -10,7 +10,7 @@ from whoseday.graphs import (
 )
 from whoseday.hubs import Hub
 from whoseday.pieces import Days
-from whoseday.rings import Rings, balanced_ring, cheapest_ring
+from whoseday.rings import Rings, balanced_ring, cheapest_ring, stray_way
 from whoseday.swings import shares
 from whoseday.totals import Totals, short_blocks, slimmed
 
@@ -145,6 +145,33 @@ class GraphsTest(unittest.TestCase):
             self.assertEqual((at, total), (0, 0))
             self.assertGreater(copies, 0)
 
+    def test_ways_that_stray(self):
+        rng = random.Random(12)
+        lengths = {}
+        for turn in range(1500):
+            rows = random_rows(rng, most=rng.choice([4, 8]), wide=rng.choice([1, 3]))
+            if turn % 2:
+                # Here all rings cost nothing but for one step.
+                heights = [rng.randint(-3, 3) for _ in rows]
+                rows = [
+                    [(goal, heights[goal] - heights[node], "x") for goal, _, _ in row] for node, row in enumerate(rows)
+                ]
+                node = rng.randrange(len(rows))
+                rows[node] = [(goal, cost + (rng.random() < 0.3), "x") for goal, cost, _ in rows[node]]
+            wanted = [node == 0 or rng.random() < 0.1 for node in range(len(rows))]
+            way = stray_way(rows, wanted)
+            found = [
+                copies for (node, total), copies in plain_reach(rows, 60).items() if wanted[node] and (node, total) != (0, 0)
+            ]
+            self.assertEqual(None if way is None else len(way) - 1, min(found, default=None))
+            if way is not None:
+                self.assertEqual(way[0], 0)
+                self.assertTrue(wanted[way[-1]])
+                self.assertNotEqual((way[-1], plain_cost(rows, way)), (0, 0))
+            length = None if way is None else len(way) - 1
+            lengths[length] = lengths.get(length, 0) + 1
+        self.assertTrue({None, 1, 2, 3, 4, 5, 6} <= set(lengths), lengths)
+
     def test_gaps(self):
         rng = random.Random(5)
         for _ in range(200):
@@ -169,7 +196,7 @@ class HubsTest(unittest.TestCase):
 
     def check(self, rows, nodes):
         hub = Hub(rows, nodes)
-        steps = hub.steps()
+        steps = hub.chosen_steps()
         self.assertEqual(sorted(steps), sorted(nodes))
         for node, step in steps.items():
             self.assertGreaterEqual(step, 1)
@@ -206,14 +233,21 @@ class HubsTest(unittest.TestCase):
         steps = self.check(rows, list(range(60)))
         self.assertLessEqual(len(set(steps.values())), 59)
 
+    def test_rings_that_have_no_steps_in_common(self):
+        # No sum of two of these costs is another such sum, so that hardly two nodes have a step in common.
+        costs = [1000 + more for more in (1, 2, 4, 8, 13, 21, 31, 45, 66, 81, 97, 123, 148, 182, 204, 252, 290, 361)]
+        rows = [[(node, 0) for node in range(1, 19)], *[[(0, cost)] for cost in costs]]
+        steps = self.check(rows, list(range(19)))
+        self.assertEqual(sorted(set(steps.values())), costs)
+
 
 class TotalsTest(unittest.TestCase):
 
-    def check(self, rng, rows, groups):
+    def check(self, rng, rows, groups, bound=BOUND):
         totals = Totals(rows)
-        reach = plain_reach(rows, BOUND)
+        reach = plain_reach(rows, bound)
         for nodes in groups:
-            days = Days(totals.pieces(nodes))
+            days = Days(totals.pieces_at(nodes))
             wanted = {total for node, total in reach if node in nodes and abs(total) <= NEAR}
             self.assertEqual({total for total in range(-NEAR, NEAR + 1) if total in days}, wanted)
             asked = [rng.randint(-NEAR, NEAR) for _ in range(3)]
@@ -239,8 +273,21 @@ class TotalsTest(unittest.TestCase):
             rows = random_rows(rng, wide=rng.choice([1, 2, 3, 7]))
             self.check(rng, rows, [[node] for node in range(len(rows))] + [list(range(0, len(rows), 2))])
 
+    def test_rings_with_great_gaps(self):
+        # All rings cost multiples of a number, but ways from node to node do not.
+        rng = random.Random(11)
+        for _ in range(150):
+            factor = rng.choice([3, 5, 7])
+            rows = random_rows(rng, most=6, wide=2)
+            heights = [rng.randint(-6, 6) for _ in rows]
+            rows = [
+                [(goal, factor * cost + heights[goal] - heights[node], "x") for goal, cost, _ in row]
+                for node, row in enumerate(rows)
+            ]
+            self.check(rng, rows, [[node] for node in range(len(rows))] + [list(range(0, len(rows), 2))], 500)
+
     def test_two_rings_one_behind_the_other(self):
-        for one, other in [(6, 4), (5, 3), (6, -4), (-6, -9), (7, 0), (0, 7), (1, 12)]:
+        for one, other in [(6, 4), (5, 3), (6, -4), (-6, -9), (7, 0), (0, 7), (1, 12), (6, -9), (-10, 15), (9, -9), (4, -6)]:
             rows = [((0, one, "x"), (1, 1, "x")), ((1, other, "x"), (2, 2, "x")), ()]
             self.check(random.Random(8), rows, [[0], [1], [2], [0, 1, 2], []])
 

@@ -172,6 +172,19 @@ class LanguageTest(unittest.TestCase):
                     for alias in node.names:
                         self.assertIn(alias.name, used, name)
 
+    def test_no_variable_has_the_name_of_an_import_or_a_class(self):
+        for name, tree in trees().items():
+            taken = {node.name for node in tree.body if isinstance(node, (ast.ClassDef, ast.FunctionDef))}
+            for node in tree.body:
+                if isinstance(node, ast.ImportFrom):
+                    taken.update(alias.name for alias in node.names)
+            for node in functions(tree):
+                for part in ast.walk(node):
+                    if isinstance(part, ast.arg):
+                        self.assertNotIn(part.arg, taken, (name, part.lineno))
+                    if isinstance(part, ast.Name) and isinstance(part.ctx, ast.Store):
+                        self.assertNotIn(part.id, taken, (name, part.lineno))
+
     def assert_defined(self, files, file, name):
         defined = set()
         for node in files[file].body:
@@ -265,6 +278,22 @@ class LanguageTest(unittest.TestCase):
             for node in ast.walk(tree):
                 if isinstance(node, ast.Constant) and isinstance(node.value, str) and " " not in node.value:
                     self.assertEqual(set(re.findall(r"\w+", node.value)) & NO_WORDS, set(), name)
+
+    def test_comparing_and_counting_assign_nothing(self):
+        for name, tree in trees().items():
+            for node in functions(tree):
+                if node.name in ("__eq__", "__len__", "__repr__", "__str__"):
+                    kinds = {type(part) for part in ast.walk(node)}
+                    self.assertFalse(kinds & {ast.Assign, ast.AugAssign, ast.AnnAssign, ast.Delete}, (name, node.lineno))
+
+    def test_no_name_is_a_method_and_an_attribute(self):
+        called, stored = set(), set()
+        for tree in trees().values():
+            called |= methods(tree)
+            for node in ast.walk(tree):
+                if isinstance(node, ast.Attribute) and isinstance(node.ctx, ast.Store):
+                    stored.add(node.attr)
+        self.assertEqual(called & stored, set())
 
     def test_handlers_name_their_errors(self):
         barred = {"Exception", "TypeError", "ArithmeticError", "OverflowError", "RuntimeError",

@@ -114,7 +114,7 @@ def _row_to(net, form, q):
     """The row of a walk from a form along which a day comes to q."""
     forms = Forms(net, [form], True)
     days = [index for index, one in enumerate(forms.found) if one[1] == "day" and q in net.targets_of(one[0])]
-    return (*forms.names(short_way(forms.steps, 0, days[0])), q)
+    return (*forms.row_on(short_way(forms.steps, 0, days[0])), q)
 
 
 def _wrong_from(net, p, entry, row, origin, width):

@@ -16,7 +16,7 @@ MOST_COPIES = 60
 def days_at(net, p, entry, q, end):
     """The set of the moved days of the point on all walks from p to q."""
     states = _states(net, p, entry, q, end)
-    return Days(Totals(states.steps).pieces(states.at(q)))
+    return Days(Totals(states.steps).pieces_at(states.at(q)))
 
 
 def can_show(net, p, entry, q, end, day):

@@ -34,7 +34,7 @@ class Forms:
                 row.append((numbers[form], pair))
             self.steps.append(row)
 
-    def names(self, way):
+    def row_on(self, way):
         """The names of the programs to which the entry is copied on a way of forms."""
         return tuple([self.found[index][0] for index in way[1:]])
 

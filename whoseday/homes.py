@@ -2,9 +2,9 @@
 
 from whoseday.entries import DAY
 from whoseday.errors import BadNumber, NoRoute, NotARing, TooMany
-from whoseday.graphs import backward, cost_of, falling_ring, kept_inside, reached_from, traced, turned_costs
+from whoseday.graphs import backward, cost_of, falling_ring, kept_inside, reached_from, turned_costs
 from whoseday.points import Copier, minutes_of, need_point
-from whoseday.rings import balanced_ring, cheapest_ring
+from whoseday.rings import balanced_ring, cheapest_ring, stray_way
 from whoseday.states import States, named_blocks, names_on
 from whoseday.words import is_integer
 
@@ -60,25 +60,8 @@ def comes_home(net, p, entry, end):
 def strays(net, p, entry, end):
     """The row of a shortest walk that ends at p, not home; None if there is none."""
     states = States(net, p, entry, end)
-    line = [(0, 0)]
-    before = [None]
-    days_at = [[] for _ in states.found]
-    days_at[0].append(0)
-    at = 0
-    while at < len(line):
-        node, moved = line[at]
-        for goal, days, _ in states.steps[node]:
-            # Two numbers of days are enough: one of them at least strays later
-            # on, if a third one would, and no later.
-            if len(days_at[goal]) < 2 and moved + days not in days_at[goal]:
-                days_at[goal].append(moved + days)
-                line.append((goal, moved + days))
-                before.append(at)
-                if states.found[goal][0] == p and (goal, moved + days) != (0, 0):
-                    way = [line[spot][0] for spot in traced(before, 0, len(line) - 1)]
-                    return names_on(states, way)
-        at += 1
-    return None
+    way = stray_way(states.steps, [state[0] == p for state in states.found])
+    return None if way is None else names_on(states, way)
 
 
 def settles(net, p, row, ring, entry, end):

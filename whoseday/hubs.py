@@ -31,7 +31,7 @@ class Hub:
                     self._loops[cost] = (place, goal)
         self._coins = _coins(sorted(list(self._loops)), 2 * max([*self._trips, *list(self._loops)]))
 
-    def steps(self):
+    def chosen_steps(self):
         """For each node of the component the step by which it can be made dearer: {node: step}."""
         chosen = _chosen(self._trips, self._coins)
         return {node: chosen[trip] for node, trip in zip(self._nodes, self._trips)}
@@ -104,8 +104,8 @@ def _chosen(trips, coins):
     for turn in range(len(trips)):
         if not left:
             break
-        # Where it would take long to choose well, any step that fits will do.
-        step = _best_step(left, coins) if turn < GREEDY else _any_step(left, coins)
+        # Where it would take long to choose well, the cost of a trip itself will do.
+        step = _best_step(left, coins) if turn < GREEDY else max(list(left))
         for trip in list(left):
             if _fits(trip, step, coins):
                 chosen[trip] = step
@@ -125,9 +125,3 @@ def _best_step(left, coins):
         if many * best[1] > best[0] * step:
             best = (many, step)
     return best[1]
-
-
-def _any_step(left, coins):
-    if max(list(left)) > 0:
-        return max(list(left))
-    return min([step for step in range(1, len(coins)) if coins[step] is not None])

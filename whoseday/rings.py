@@ -79,6 +79,33 @@ def balanced_ring(rows, start, rising, falling):
     ]
 
 
+def stray_way(rows, wanted):
+    """A shortest way of a step or more from node 0 to a wanted node, but not to node 0 with a cost of 0.
+
+    wanted tells it for each node. None if there is no such way.
+    """
+    line = [(0, 0)]
+    before = [None]
+    totals = [[] for _ in rows]
+    totals[0].append(0)
+    at = 0
+    while at < len(line):
+        node, moved = line[at]
+        for step in rows[node]:
+            goal = step[0]
+            total = moved + step[1]
+            # Two totals are enough: if a third one led to such a way, one of
+            # them at least would, and not later.
+            if len(totals[goal]) < 2 and total not in totals[goal]:
+                totals[goal].append(total)
+                line.append((goal, total))
+                before.append(at)
+                if wanted[goal]:
+                    return [line[place][0] for place in traced(before, 0, len(line) - 1)]
+        at += 1
+    return None
+
+
 def _gap(part):
     """The greatest common divisor of the costs of all rings of a component; 0 if they cost nothing."""
     # Where two ways from one node to another one differ, rings differ by as much.

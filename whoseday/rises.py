@@ -33,7 +33,7 @@ class Rises:
         ]
         steps = {}
         for hub in _hubs(level, heights, groups, rising):
-            for node, step in hub.steps().items():
+            for node, step in hub.chosen_steps().items():
                 self._hubs[node] = hub
                 steps[node] = step
         for step in sorted({one for one in steps.values()}):
@@ -62,7 +62,7 @@ class Run:
 
     def __init__(self, level, heights, marks, step):
         self.step = step
-        self._marks = marks
+        self._marked = marks
         self._least = [{} for _ in level]
         self._before = {}
         first = (0, 0, marks[0])
@@ -96,7 +96,7 @@ class Run:
             key = self._before[key]
             way.append(key[0])
         way = way[::-1]
-        place = [at for at, one in enumerate(way) if self._marks[one]][0]
+        place = [at for at, one in enumerate(way) if self._marked[one]][0]
         return way, place, (total - self._least[node][total % self.step]) // self.step
 
 

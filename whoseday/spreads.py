@@ -20,10 +20,10 @@ class Origin:
         self.last = last
 
     def __eq__(self, other):
-        if not isinstance(other, Origin):
-            return False
-        mine = (self.program, self.kind, self.zone, self.first, self.last)
-        return mine == (other.program, other.kind, other.zone, other.first, other.last)
+        return (
+            isinstance(other, Origin) and self.program == other.program and self.kind == other.kind
+            and self.zone == other.zone and self.first == other.first and self.last == other.last
+        )
 
     @property
     def room(self):
@@ -76,11 +76,11 @@ def spread_walk(net, p, kind, zone):
         rows = _costs(forms, high)
         ring = falling_ring(rows)
         if ring is not None:
-            return high, forms.names(short_way(rows, 0, ring[0])), forms.names(ring)
+            return high, forms.row_on(short_way(rows, 0, ring[0])), forms.row_on(ring)
         costs, before = least_costs(rows, 0)
         if min(costs) < best[0]:
             best = (min(costs), high, traced(before, 0, costs.index(min(costs))))
-    return best[1], forms.names(best[2]), ()
+    return best[1], forms.row_on(best[2]), ()
 
 
 def spread_table(net):

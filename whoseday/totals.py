@@ -20,7 +20,7 @@ class Totals:
         self._drops = Rises(turned_costs(rows), rings.groups, rings.falling, rings.rising)
         self._swings = Swings(rows, rings)
 
-    def pieces(self, nodes):
+    def pieces_at(self, nodes):
         """The pieces of the set of the totals at some nodes."""
         wanted = {node: True for node in nodes}
         found = [("one", total) for node, total in self._plain if node in wanted]
