@@ -147,6 +147,16 @@ class WidthsTest(Bands):
         for text in ["fixed 720 to 720", "fixed 0 to 1439", "fixed 3 to 3"]:
             self.check(random.Random(34), net, "p", Entry(text))
 
+    def test_a_walk_to_an_origin_that_is_wrong_already(self):
+        # The way to x moves days back by just as much as the way from x moves them on.
+        net = Net(
+            "zone c 0\nzone d 0\nprogram x at c\n  day -> fixed 1439 1439\nprogram p at c\nprogram y at d\n  day -> fixed 0 0\n"
+            "program r at c\n  fixed -> day\nprogram s at d\n  fixed -> day\nroute p y\nroute y r\nroute r x\nroute x s"
+        )
+        self.assertEqual([one.program for one in origins(net, "p", DAY)], ["x", "y"])
+        for width in (1, 720, 1680):
+            self.assert_wrong(net, "p", DAY, width, wrong(net, "p", DAY, width))
+
     def test_right_behind_no_copies_and_without_routes(self):
         net = Net("zone a 0\nprogram p at a")
         for entry in (DAY, FIXED, Entry("zoned 0 to 1 a")):
@@ -183,6 +193,9 @@ class WidthsTest(Bands):
             for entry in (DAY, east):
                 with self.assertRaises(NoProgram) as caught:
                     right_hours(N, "phone", entry, value, None)
+                self.assertIs(caught.exception.name, value)
+                with self.assertRaises(NoProgram) as caught:
+                    right_hours(N, value, entry, "zzzz", None)
                 self.assertIs(caught.exception.name, value)
         with self.assertRaises(NoZone):
             widest(N, "phone", east)
@@ -305,6 +318,14 @@ class HoursTest(Bands):
             self.assertEqual(right_hours(net.without_route("desk", "phone"), "phone", DAY, "third", width), (0, 1379))
         self.assertEqual(right_hours(net, "phone", DAY, "third", 719), (0, 1379))
         self.assertIsNone(right_hours(net, "phone", DAY, "third", 720))
+
+    def test_hours_that_wander_for_ever(self):
+        net = RING.with_program("r", "a").with_rule("r", "day", "float 720 725").with_route("r", "p")
+        net = net.with_program("s", "a").with_route("s", "r")
+        self.assertEqual(right_hours(net, "s", DAY, "r", 0), (0, 1434))
+        for width in (1, 2, 1680):
+            self.assertIsNone(right_hours(net, "s", DAY, "r", width))
+        self.assertEqual(right_hours(net.without_route("q", "p"), "s", DAY, "r", 1680), (0, 1434))
 
     def test_the_beginning_is_no_rule_for_days(self):
         # The entry begins at the program whose hours are asked for, and has minutes of its own.
