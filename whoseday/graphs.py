@@ -135,6 +135,16 @@ def _ring_in(before):
     return None
 
 
+def keyed_way(before, key):
+    """The way of the nodes of keys ahead of one another; a key begins with its node, the first is ahead of itself."""
+    way = [key[0]]
+    at = key
+    while before[at] != at:
+        at = before[at]
+        way.append(at[0])
+    return way[::-1]
+
+
 def part_of(rows, nodes):
     """The graph of some nodes and the steps between them; its nodes are their places in nodes."""
     places = {node: place for place, node in enumerate(nodes)}

@@ -7,7 +7,7 @@ of each rest.
 
 from heapq import heappop, heappush
 
-from whoseday.graphs import kept_inside, least_costs
+from whoseday.graphs import keyed_way, kept_inside, least_costs
 from whoseday.hubs import Hub
 
 
@@ -90,12 +90,7 @@ class Run:
 
     def way_to(self, node, total):
         """A way of the same rest, the place on it that is marked, and the steps that are missing."""
-        key = (node, total % self.step, True)
-        way = [node]
-        while self._before[key] != key:
-            key = self._before[key]
-            way.append(key[0])
-        way = way[::-1]
+        way = keyed_way(self._before, (node, total % self.step, True))
         place = [at for at, one in enumerate(way) if self._marked[one]][0]
         return way, place, (total - self._least[node][total % self.step]) // self.step
 

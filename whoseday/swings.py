@@ -7,7 +7,7 @@ rings beside it cost.
 
 from math import gcd
 
-from whoseday.graphs import backward, cost_of, part_of
+from whoseday.graphs import backward, cost_of, keyed_way, part_of
 
 
 class Swings:
@@ -71,11 +71,7 @@ class Swing:
         key = (node, total % self.step, True, True)
         if key not in self._before:
             return None
-        way = [node]
-        while self._before[key] != key:
-            key = self._before[key]
-            way.append(key[0])
-        return self._balanced(way[::-1], total)
+        return self._balanced(keyed_way(self._before, key), total)
 
     def _marks(self, node):
         """Whether the node has a rising ring of the one gap, and a falling ring of the other one."""

@@ -1,6 +1,6 @@
 """The costs of all ways from node 0 of a graph, and ways that have a given cost."""
 
-from whoseday.graphs import kept_inside, turned_costs
+from whoseday.graphs import keyed_way, kept_inside, turned_costs
 from whoseday.rings import Rings
 from whoseday.rises import Rises
 from whoseday.swings import Swings
@@ -34,7 +34,7 @@ class Totals:
         """A way in blocks, pairs (way, times), to one of some nodes with a total; None if there is none."""
         for node in nodes:
             if (node, total) in self._plain:
-                return [(self._plain_way(node, total), 1)]
+                return [(keyed_way(self._plain, (node, total)), 1)]
         for node in nodes:
             for blocks in (
                 self._rises.blocks(node, total), self._drops.blocks(node, -total), self._swings.blocks(node, total),
@@ -42,14 +42,6 @@ class Totals:
                 if blocks is not None:
                     return short_blocks(blocks)
         return None
-
-    def _plain_way(self, node, total):
-        key = (node, total)
-        way = [node]
-        while self._plain[key] != key:
-            key = self._plain[key]
-            way.append(key[0])
-        return way[::-1]
 
 
 def slimmed(pieces):
