@@ -244,7 +244,7 @@ class SettlesTest(unittest.TestCase):
         self.assertEqual((settled.laps, settled.period, settled.gain, settled.still), (2, 1, 0, True))
         self.assertEqual([settled.days_after(n) for n in range(4)], [0, -1, -1, -1])
 
-    def test_laps_and_period_of_just_1000(self):
+    def test_laps_and_period_on_both_sides_of_1000(self):
         text = "zone a 0\nzone b {}\nprogram p at a\n  fixed -> float\nprogram q at b\n  float -> fixed\nroute p q\nroute q p"
         settled = settles(Net(text.format(3)), "p", (), ("q", "p"), FLOAT, 0)
         self.assertEqual((settled.laps, settled.period, settled.gain), (0, 480, -1))

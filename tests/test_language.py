@@ -122,6 +122,13 @@ def bound_names(tree):
     return found
 
 
+def bound_names_of(comprehension):
+    """The names that the loops of a comprehension assign."""
+    return {
+        part.id for loop in comprehension.generators for part in ast.walk(loop.target) if isinstance(part, ast.Name)
+    }
+
+
 def methods(tree):
     return {
         node.name for part in ast.walk(tree) if isinstance(part, ast.ClassDef)
@@ -294,6 +301,33 @@ class LanguageTest(unittest.TestCase):
                 if isinstance(node, ast.Attribute) and isinstance(node.ctx, ast.Store):
                     stored.add(node.attr)
         self.assertEqual(called & stored, set())
+
+    def test_names_in_comprehensions_inside_others(self):
+        kinds = (ast.ListComp, ast.SetComp, ast.DictComp, ast.GeneratorExp)
+        for name, tree in trees().items():
+            for node in functions(tree):
+                inside = [part for part in ast.walk(node) if isinstance(part, kinds)]
+                own = {id(one) for part in inside for loop in part.generators for one in ast.walk(loop.target)}
+                taken = {
+                    one.id for one in ast.walk(node)
+                    if isinstance(one, ast.Name) and isinstance(one.ctx, ast.Store) and id(one) not in own
+                } | {one.arg for one in ast.walk(node) if isinstance(one, ast.arg)}
+                for outer in inside:
+                    for inner in ast.walk(outer):
+                        if inner is not outer and isinstance(inner, kinds):
+                            mine, outside = bound_names_of(inner), bound_names_of(outer)
+                            self.assertEqual(mine & (taken | outside), set(), (name, inner.lineno))
+
+    def test_loops_do_not_change_what_they_go_over(self):
+        changing = {"append", "pop", "extend", "insert", "remove", "clear", "update", "setdefault", "add", "discard", "sort"}
+        for name, tree in trees().items():
+            for loop in ast.walk(tree):
+                if isinstance(loop, ast.For):
+                    gone_over = {part.id for part in ast.walk(loop.iter) if isinstance(part, ast.Name)} - {"self", "list"}
+                    for call in [part for row in loop.body for part in ast.walk(row) if isinstance(part, ast.Call)]:
+                        if isinstance(call.func, ast.Attribute) and call.func.attr in changing:
+                            changed = {part.id for part in ast.walk(call.func.value) if isinstance(part, ast.Name)}
+                            self.assertEqual(changed & gone_over, set(), (name, call.lineno))
 
     def test_handlers_name_their_errors(self):
         barred = {"Exception", "TypeError", "ArithmeticError", "OverflowError", "RuntimeError",

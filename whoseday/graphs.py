@@ -165,11 +165,12 @@ def components(rows):
             nodes = [root]
             at = 0
             while at < len(nodes):
-                for step in back[nodes[at]]:
+                node = nodes[at]
+                at += 1
+                for step in back[node]:
                     if not taken[step[0]]:
                         taken[step[0]] = True
                         nodes.append(step[0])
-                at += 1
             found.append(nodes)
     return found
 

@@ -26,11 +26,7 @@ class Rises:
             return
         inside = kept_inside(rows, calm)
         heights, _ = least_costs(inside, 0)
-        # By these costs, which have the same rings, no step costs less than 0.
-        level = [
-            [] if height is None else [(step[0], step[1] + height - heights[step[0]]) for step in row]
-            for height, row in zip(heights, inside)
-        ]
+        level = _leveled(inside, heights)
         steps = {}
         for hub in _hubs(level, heights, groups, rising):
             for node, step in hub.chosen_steps().items():
@@ -93,6 +89,14 @@ class Run:
         way = keyed_way(self._before, (node, total % self.step, True))
         place = [at for at, one in enumerate(way) if self._marked[one]][0]
         return way, place, (total - self._least[node][total % self.step]) // self.step
+
+
+def _leveled(rows, heights):
+    """The graph with other costs for the same rings, none of them below 0."""
+    return [
+        [] if height is None else [(step[0], step[1] + height - heights[step[0]]) for step in row]
+        for height, row in zip(heights, rows)
+    ]
 
 
 def _hubs(level, heights, groups, rising):
