@@ -43,6 +43,10 @@ INTERFACE = {
         "spread_table": [],
     },
     "bands.py": {"is_right": [], "widest": [], "wrong": [], "right_minutes": [], "right_hours": []},
+    "stairs.py": {"right_copies": [], "widest_after": []},
+    "twins.py": {"parting_walk": [], "apart": []},
+    "repairs.py": {"holds": [], "repair": [], "cut": []},
+    "told.py": {"told_back": [], "Told": ["lowest", "highest", "between", "some", "days"]},
 }
 
 LIBRARY = {
@@ -301,6 +305,14 @@ class LanguageTest(unittest.TestCase):
                 if isinstance(node, ast.Attribute) and isinstance(node.ctx, ast.Store):
                     stored.add(node.attr)
         self.assertEqual(called & stored, set())
+
+    def test_no_name_is_a_property_and_a_method(self):
+        read, called = set(), set()
+        for tree in trees().values():
+            for node in functions(tree):
+                marked = [part.id for part in node.decorator_list if isinstance(part, ast.Name)]
+                (read if "property" in marked else called).add(node.name)
+        self.assertEqual(read & called, set())
 
     def test_names_in_comprehensions_inside_others(self):
         kinds = (ast.ListComp, ast.SetComp, ast.DictComp, ast.GeneratorExp)

@@ -2,14 +2,14 @@
 
 from whoseday.copies import moved_days
 from whoseday.entries import DAY
-from whoseday.errors import BadEntry, BadNumber, NoHours
+from whoseday.errors import BadEntry, NoHours
 from whoseday.forms import Forms
 from whoseday.graphs import short_way
 from whoseday.points import need_known
 from whoseday.rules import KEEP, LAST_MINUTE
 from whoseday.spreads import origins, spread_walk, spreads_of, stretch_sum
 from whoseday.unknown import as_shown
-from whoseday.words import is_integer
+from whoseday.words import need_number
 
 MOST_WIDTH = 1680
 HALF_A_DAY = 720
@@ -18,7 +18,7 @@ HALF_A_DAY = 720
 def is_right(net, p, entry, width):
     """Tells whether the net is right with the entry at p within a width."""
     need_known(net, p, entry)
-    need_width(width)
+    need_number(width, 0, MOST_WIDTH)
     return all([_fits(origin.room, found, width) for origin, found in _spread_origins(net, p, entry)])
 
 
@@ -35,7 +35,7 @@ def widest(net, p, entry):
 def wrong(net, p, entry, width):
     """Offsets and a walk in blocks behind which the entry is not right; None if the net is right."""
     need_known(net, p, entry)
-    need_width(width)
+    need_number(width, 0, MOST_WIDTH)
     for number, (origin, found) in enumerate(_spread_origins(net, p, entry)):
         if not _fits(origin.room, found, width):
             at_first = number == 0 and entry.kind != "day"
@@ -47,7 +47,7 @@ def wrong(net, p, entry, width):
 def right_minutes(net, p, entry, width):
     """The pairs (low, high) of the minutes that the first point may show, so that the net is right."""
     need_known(net, p, entry)
-    need_width(width)
+    need_number(width, 0, MOST_WIDTH)
     if entry.kind == "day":
         raise BadEntry(entry)
     (_, found), *others = _spread_origins(net, p, entry)
@@ -70,7 +70,7 @@ def right_hours(net, p, entry, q, width):
     net.home_of(p)
     net.home_of(q)
     need_known(net, p, entry)
-    need_width(width)
+    need_number(width, 0, MOST_WIDTH)
     rule = net.rule_of(q, "day")
     if rule == KEEP:
         raise NoHours(q)
@@ -87,12 +87,6 @@ def right_hours(net, p, entry, q, width):
             return None
     high = LAST_MINUTE - (int(late) - int(early)) - low
     return (low, high) if low <= high else None
-
-
-def need_width(width):
-    """Raises BadNumber(width) for any value that is not an integer from 0 to 1680."""
-    if not is_integer(width) or not 0 <= width <= MOST_WIDTH:
-        raise BadNumber(width)
 
 
 def _spread_origins(net, p, entry):

@@ -2,13 +2,12 @@
 
 from math import gcd
 
-from whoseday.errors import BadNumber
 from whoseday.graphs import cost_of, falling_ring, turned_costs
 from whoseday.pieces import Days
 from whoseday.rings import Rings
 from whoseday.states import States, named_blocks, names_on
 from whoseday.totals import Totals
-from whoseday.words import is_integer
+from whoseday.words import need_number
 
 MOST_COPIES = 60
 
@@ -22,8 +21,7 @@ def days_at(net, p, entry, q, end):
 def can_show(net, p, entry, q, end, day):
     """A walk in blocks from p to q with so many moved days; None if there is none."""
     states = _states(net, p, entry, q, end)
-    if not is_integer(day):
-        raise BadNumber(day)
+    need_number(day, None, None)
     blocks = Totals(states.steps).blocks(states.at(q), day)
     return None if blocks is None else named_blocks(states, blocks)
 
@@ -41,8 +39,7 @@ def drift(net, p, entry, end):
 def after(net, p, entry, q, end, n):
     """The least and the greatest moved days on walks of n copies from p to q; None if there are none."""
     states = _states(net, p, entry, q, end)
-    if not is_integer(n) or not 0 <= n <= MOST_COPIES:
-        raise BadNumber(n)
+    need_number(n, 0, MOST_COPIES)
     spans = {0: (0, 0)}
     for _ in range(n):
         spans = _later(states.steps, spans)

@@ -6,9 +6,8 @@ to the beginning of the day.
 """
 
 from whoseday.entries import DAY
-from whoseday.errors import BadNumber
 from whoseday.rules import KEEP
-from whoseday.words import is_integer
+from whoseday.words import need_number
 
 
 class Copier:
@@ -91,8 +90,7 @@ def need_known(net, p, entry):
 def need_point(net, p, entry, end):
     """Raises what need_known does, then BadNumber(end)."""
     need_known(net, p, entry)
-    if not is_integer(end) or end not in (0, 1):
-        raise BadNumber(end)
+    need_number(end, 0, 1)
 
 
 def _target_and_more(net, home, kind, zone, rule):

@@ -59,7 +59,7 @@ def sums(net, p, kind, zone, high):
     for name in high:
         net.offset_of(name)
     forms = Forms(net, [(p, kind, zone)], False)
-    rows = _costs(forms, high)
+    rows = form_costs(forms, high)
     if falling_ring(rows) is not None:
         return None
     costs, _ = least_costs(rows, 0)
@@ -72,8 +72,8 @@ def spread_walk(net, p, kind, zone):
     need_zone(net, kind, zone)
     forms = Forms(net, [(p, kind, zone)], False)
     best = (1, None, None)
-    for high in _sets_of(net.zones):
-        rows = _costs(forms, high)
+    for high in sets_of(net.zones):
+        rows = form_costs(forms, high)
         ring = falling_ring(rows)
         if ring is not None:
             return high, forms.row_on(short_way(rows, 0, ring[0])), forms.row_on(ring)
@@ -94,8 +94,8 @@ def spreads_of(net, starts):
     """The spreads of some forms (program, kind, zone) with clocks, one after the other."""
     forms = Forms(net, starts, False)
     best = [0 for _ in forms.found]
-    for high in _sets_of(net.zones):
-        for node, found in enumerate(_greatest(_costs(forms, high))):
+    for high in sets_of(net.zones):
+        for node, found in enumerate(_greatest(form_costs(forms, high))):
             known = best[node]
             best[node] = None if known is None or found is None else max(known, found)
     return best[:len(starts)]
@@ -119,12 +119,13 @@ def counted(pair, high):
     return int(pair[0] in high) - int(pair[1] in high)
 
 
-def _costs(forms, high):
+def form_costs(forms, high):
     """The graph of forms in which a step costs what the copy counts, with the sign turned."""
     return [[(index, -counted(pair, high)) for index, pair in row] for row in forms.steps]
 
 
-def _sets_of(zones):
+def sets_of(zones):
+    """All sets of zones, as tuples."""
     found = [()]
     for zone in zones:
         found = found + [(*one, zone) for one in found]

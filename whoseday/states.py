@@ -18,9 +18,7 @@ class States:
 
     def __init__(self, net, p, entry, end):
         need_point(net, p, entry, end)
-        value = entry.last if end == 1 else entry.first
-        first = (p, entry.kind, entry.zone, minutes_of(entry.kind, value) % DAY)
-        found, steps = _reached(net, first, end)
+        found, steps = _reached(net, first_state(p, entry, end), end)
         self._net = net
         self._before = _ways(steps)
         self.found = tuple(found)
@@ -73,6 +71,20 @@ class States:
         return tuple(names[::-1])
 
 
+def first_state(p, entry, end):
+    """The state of a point of an entry that a program holds."""
+    minutes = minutes_of(entry.kind, entry.last if end == 1 else entry.first)
+    return p, entry.kind, entry.zone, minutes % DAY
+
+
+def state_copy(copier, state, q):
+    """The state to which a copy leads from a state, and the days that it moves the point."""
+    p, kind, zone, rest = state
+    ahead = copier.day(p, kind, zone, rest)
+    kind, zone, minutes = copier.carry(q, kind, zone, rest)
+    return (q, kind, zone, minutes % DAY), copier.day(q, kind, zone, minutes) - ahead
+
+
 def names_on(states, way):
     """The row of a way of states: the names of the programs to which the entry is copied."""
     return tuple([states.found[index][0] for index in way[1:]])
@@ -94,7 +106,7 @@ def _reached(net, first, end):
         state = found[len(steps)]
         row = []
         for q in targets[state[0]]:
-            goal, days = _copied(copier, state, q)
+            goal, days = state_copy(copier, state, q)
             if goal not in numbers:
                 if len(found) >= MOST_STATES:
                     raise TooMany(MOST_STATES)
@@ -103,14 +115,6 @@ def _reached(net, first, end):
             row.append((numbers[goal], days, q))
         steps.append(tuple(row))
     return found, steps
-
-
-def _copied(copier, state, q):
-    """The state to which a copy leads from a state, and the days that it moves the point."""
-    p, kind, zone, rest = state
-    ahead = copier.day(p, kind, zone, rest)
-    kind, zone, minutes = copier.carry(q, kind, zone, rest)
-    return (q, kind, zone, minutes % DAY), copier.day(q, kind, zone, minutes) - ahead
 
 
 def _ways(steps):

@@ -1,5 +1,7 @@
 """Integers, names and numbers in texts."""
 
+from whoseday.errors import BadNumber
+
 MOST_DIGITS = 30
 MOST_LETTERS = 12
 
@@ -7,6 +9,12 @@ MOST_LETTERS = 12
 def is_integer(value):
     """Tells whether any value is an integer; True and False are none."""
     return isinstance(value, int) and not isinstance(value, bool)
+
+
+def need_number(value, low, high):
+    """Raises BadNumber(value) for any value that is not an integer from low to high; None sets no bound."""
+    if not is_integer(value) or (low is not None and value < low) or (high is not None and value > high):
+        raise BadNumber(value)
 
 
 def is_name(value):
