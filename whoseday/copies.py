@@ -17,24 +17,24 @@ def clock(net, p, entry):
 def shown(net, p, entry):
     """The days on which the first and the last point show."""
     need_known(net, p, entry)
-    return _days(_copiers(net), p, _held(entry))
+    return _days(_copiers(net), p, minutes_held(entry))
 
 
 def copied(net, p, entry):
     """The entry that the program p holds when it copies an entry."""
     need_known(net, p, entry)
-    return _entry(_copy(_copiers(net), p, _held(entry)))
+    return entry_held(_copy(_copiers(net), p, minutes_held(entry)))
 
 
 def along(net, walk, entry):
     """The entries that are held on a walk, the given one first."""
     later = _walked(net, walk, entry)[1:]
-    return (entry, *[_entry(held) for held in later])
+    return (entry, *[entry_held(held) for held in later])
 
 
 def carried(net, walk, entry):
     """The entry that is held at the end of a walk."""
-    return _entry(_walked(net, walk, entry)[-1])
+    return entry_held(_walked(net, walk, entry)[-1])
 
 
 def moved_days(net, walk, entry):
@@ -58,19 +58,20 @@ def need_walk(net, walk, entry):
     need_known(net, walk[0], entry)
 
 
-def _copiers(net):
-    return Copier(net, 0), Copier(net, 1)
-
-
-def _held(entry):
+def minutes_held(entry):
     """Kind, zone and the minutes of both points of an entry."""
     kind = entry.kind
     return kind, entry.zone, minutes_of(kind, entry.first), minutes_of(kind, entry.last)
 
 
-def _entry(held):
+def entry_held(held):
+    """The entry with this kind and zone and these minutes of both points."""
     kind, zone, first, last = held
     return entry_of(kind, value_of(kind, first), value_of(kind, last), zone)
+
+
+def _copiers(net):
+    return Copier(net, 0), Copier(net, 1)
 
 
 def _copy(copiers, q, held):
@@ -89,7 +90,7 @@ def _walked(net, walk, entry):
     """What is held on a walk, one member for each name."""
     need_walk(net, walk, entry)
     copiers = _copiers(net)
-    held = [_held(entry)]
+    held = [minutes_held(entry)]
     for name in walk[1:]:
         held.append(_copy(copiers, name, held[-1]))
     return held

@@ -2,7 +2,7 @@
 
 from math import gcd
 
-from whoseday.graphs import cost_of, falling_ring, turned_costs
+from whoseday.graphs import cost_of, costs_after, falling_ring, turned_costs
 from whoseday.pieces import Days
 from whoseday.rings import Rings
 from whoseday.states import States, named_blocks, names_on
@@ -14,13 +14,13 @@ MOST_COPIES = 60
 
 def days_at(net, p, entry, q, end):
     """The set of the moved days of the point on all walks from p to q."""
-    states = _states(net, p, entry, q, end)
+    states = states_to(net, p, entry, q, end)
     return Days(Totals(states.steps).pieces_at(states.at(q)))
 
 
 def can_show(net, p, entry, q, end, day):
     """A walk in blocks from p to q with so many moved days; None if there is none."""
-    states = _states(net, p, entry, q, end)
+    states = states_to(net, p, entry, q, end)
     need_number(day, None, None)
     blocks = Totals(states.steps).blocks(states.at(q), day)
     return None if blocks is None else named_blocks(states, blocks)
@@ -38,13 +38,9 @@ def drift(net, p, entry, end):
 
 def after(net, p, entry, q, end, n):
     """The least and the greatest moved days on walks of n copies from p to q; None if there are none."""
-    states = _states(net, p, entry, q, end)
+    states = states_to(net, p, entry, q, end)
     need_number(n, 0, MOST_COPIES)
-    spans = {0: (0, 0)}
-    for _ in range(n):
-        spans = _later(states.steps, spans)
-    found = [spans[node] for node in states.at(q) if node in spans]
-    return (min([low for low, _ in found]), max([high for _, high in found])) if found else None
+    return costs_after(states.steps, n, states.at(q))
 
 
 def growth(net, p, entry, end):
@@ -57,21 +53,11 @@ def growth(net, p, entry, end):
     return least, (-most, copies)
 
 
-def _states(net, p, entry, q, end):
+def states_to(net, p, entry, q, end):
     """The reached states, behind the errors for both programs, the zone and the end."""
     net.home_of(p)
     net.home_of(q)
     return States(net, p, entry, end)
-
-
-def _later(steps, spans):
-    """For each state the least and the greatest moved days behind one copy more."""
-    found = {}
-    for node, (low, high) in spans.items():
-        for goal, days, _ in steps[node]:
-            least, most = found.get(goal, (low + days, high + days))
-            found[goal] = (min(least, low + days), max(most, high + days))
-    return found
 
 
 def _least_mean(rows):

@@ -92,6 +92,20 @@ def least_costs(rows, start):
     return costs, before
 
 
+def costs_after(rows, many, goals):
+    """The least and the greatest cost of ways of many steps from node 0 to some nodes; None if there are none."""
+    ends = {0: (0, 0)}
+    for _ in range(many):
+        later = {}
+        for node, (low, high) in ends.items():
+            for step in rows[node]:
+                least, most = later.get(step[0], (low + step[1], high + step[1]))
+                later[step[0]] = (min(least, low + step[1]), max(most, high + step[1]))
+        ends = later
+    found = [ends[node] for node in goals if node in ends]
+    return (min([low for low, _ in found]), max([high for _, high in found])) if found else None
+
+
 def traced(before, start, goal):
     """The way from start to goal that the nodes ahead of one another tell."""
     way = [goal]

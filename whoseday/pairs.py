@@ -39,6 +39,11 @@ class Pairs:
         return tuple([self.found[index][0][0] for index in way[1:]])
 
 
+def pair_blocks(pairs, blocks):
+    """The walk in blocks that ways of pairs with times tell; those without copies are left out."""
+    return tuple([(pairs.row_on(way), times) for way, times in blocks if len(way) > 1 and times > 0])
+
+
 def pair_copy(copiers, pair, q):
     """The pair to which a copy leads, and the days by which it moves the second point more."""
     one, early = state_copy(copiers[0], pair[0], q)
