@@ -206,6 +206,22 @@ class RepairTest(unittest.TestCase):
         # A change that is for no copy at all leaves the number of states as it is.
         self.assertIsNone(repair(THOUSAND, "c", ZERO, [("e", "zoned", "own day"), ("e", "float", "keep")]))
 
+    def test_too_many_states_beside_the_walk_that_moves_days(self):
+        # What moves days is on the way from a to c and d, the change makes states on that from a to b.
+        net = Net(
+            "zone home 0\nzone west -1\nprogram a at home\n  fixed -> float\nprogram b at west\n"
+            "program c at west\n  float -> day\n  fixed -> day\nprogram d at home\n  day -> fixed 0 1439\n"
+            "route a b\nroute b a\nroute a c\nroute c d\nroute d c"
+        )
+        entry = Entry("float 5 to 5")
+        slow, cure, no_use = ("b", "float", "fixed"), ("d", "day", "keep"), ("b", "day", "keep")
+        self.assertEqual(repair(net, "a", entry, [cure, slow]), (0,))
+        self.assertEqual(repair(net, "a", entry, [no_use, cure, slow]), (1,))
+        for changes in ([slow, cure], [no_use, slow, cure], [slow]):
+            with self.assertRaises(TooMany) as caught:
+                repair(net, "a", entry, changes)
+            self.assertEqual(caught.exception.most, 1000)
+
     def test_too_many_states_by_a_change_that_comes_first(self):
         # As soon as b makes moments of clocks, they are a minute more in each lap of a and b.
         net = Net(

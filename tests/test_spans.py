@@ -226,6 +226,10 @@ class ErrorsTest(unittest.TestCase):
                     with self.assertRaises(NoProgram) as caught:
                         ask()
                     self.assertIs(caught.exception.name, value)
+            for ask in list(asking(N, value, EAST, "zzz"))[:3]:
+                with self.assertRaises(NoProgram) as caught:
+                    ask()
+                self.assertIs(caught.exception.name, value)
             for entry in (DAY, EAST):
                 for ask in list(asking(N, "desk", entry, value))[:3]:
                     with self.assertRaises(NoProgram) as caught:
