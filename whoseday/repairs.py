@@ -52,7 +52,7 @@ def cut(net, p, entry, width=None):
             row = _row_of_fault(_without(net, lacking), p, entry, width)
             if row is None:
                 return chosen
-            failed.append(list(zip([p, *row], row)))
+            failed.append(list({route: True for route in zip([p, *row], row)}))
     return None
 
 
@@ -82,12 +82,14 @@ def _changed(net, rules):
 
 
 def _without(net, routes):
+    """The net without some routes."""
     for p, q in routes:
         net = net.without_route(p, q)
     return net
 
 
 def _has_rules(net, rules):
+    """Tells whether the net has these rules, {(program, kind): rule}."""
     return all([net.rule_of(p, kind) == rule for (p, kind), rule in rules.items()])
 
 
