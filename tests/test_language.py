@@ -8,6 +8,8 @@ import pathlib
 import re
 import unittest
 
+from tests.walked import changed_rows
+
 FOLDER = pathlib.Path(__file__).resolve().parent.parent / "whoseday"
 
 # What the interface lists, file by file.
@@ -337,16 +339,9 @@ class LanguageTest(unittest.TestCase):
                             mine, outside = bound_names_of(inner), bound_names_of(outer)
                             self.assertEqual(mine & (taken | outside), set(), (name, inner.lineno))
 
-    def test_loops_do_not_change_what_they_go_over(self):
-        changing = {"append", "pop", "extend", "insert", "remove", "clear", "update", "setdefault", "add", "discard", "sort"}
+    def test_loops_do_not_change_what_they_walk(self):
         for name, tree in trees().items():
-            for loop in ast.walk(tree):
-                if isinstance(loop, ast.For):
-                    gone_over = {part.id for part in ast.walk(loop.iter) if isinstance(part, ast.Name)} - {"self", "list"}
-                    for call in [part for row in loop.body for part in ast.walk(row) if isinstance(part, ast.Call)]:
-                        if isinstance(call.func, ast.Attribute) and call.func.attr in changing:
-                            changed = {part.id for part in ast.walk(call.func.value) if isinstance(part, ast.Name)}
-                            self.assertEqual(changed & gone_over, set(), (name, call.lineno))
+            self.assertEqual(changed_rows(tree), [], name)
 
     def test_handlers_name_their_errors(self):
         barred = {"Exception", "TypeError", "ArithmeticError", "OverflowError", "RuntimeError",
@@ -357,6 +352,57 @@ class LanguageTest(unittest.TestCase):
                     self.assertIsNotNone(node.type, name)
                     caught = {part.id for part in ast.walk(node.type) if isinstance(part, ast.Name)}
                     self.assertEqual(caught & barred, set(), name)
+
+
+def sample(text):
+    """The tree of a method or function with these rows, the first of which is row 2."""
+    rows = "\n".join(f"    {row}" for row in text.split("\n"))
+    return ast.parse(f"def told(self, xs, ys, many):\n{rows}")
+
+
+class WalkedTest(unittest.TestCase):
+
+    def assert_found(self, text, *rows):
+        self.assertEqual(changed_rows(sample(text)), list(rows), text)
+
+    def test_by_its_name(self):
+        for change in ("xs.append(x)", "xs.pop()", "xs[0] = x", "del xs[0]", "xs += [x]", "xs.sort()", "heappush(xs, x)",
+                       "xs[0], y = y, x", "xs[0] += 1", "y = xs.pop()"):
+            self.assert_found(f"for x in xs:\n    {change}", 3)
+            self.assert_found(f"for x in list(xs):\n    {change}")
+            for walk in ("enumerate(xs)", "zip(xs, ys)", "reversed(xs)", "xs.items()", "xs if many else ys", "xs or ys",
+                         "zip(ys, enumerate(xs))", "xs[1]"):
+                self.assert_found(f"for x in {walk}:\n    if many:\n        {change}", 4)
+                if walk not in ("xs.items()", "xs[1]"):
+                    self.assert_found(f"for x in {walk.replace('xs', 'list(xs)')}:\n    {change}")
+        self.assert_found("return [xs.append(x) for x in xs]", 2)
+        self.assert_found("for x in xs:\n    ys.append(x)\nxs.append(1)")
+
+    def test_a_field(self):
+        self.assert_found("for x in self.rows:\n    self.rows.append(x)", 3)
+        self.assert_found("for x in self.rows[0]:\n    many.rows[1].append(x)", 3)
+        self.assert_found("for x in self.rows.inner:\n    self.rows[x] = 1", 3)
+        self.assert_found("for x in list(self.rows):\n    self.rows.append(x)")
+        self.assert_found("for x in self.rows:\n    self.lines.append(x)")
+
+    def test_a_list_that_is_told_by_another_one(self):
+        # What pairs.py and twins.py once had: a choice by what is changed, and what is walked next.
+        self.assert_found(
+            "while many:\n    pair = self.found[0]\n    for q in ys[pair[0][0]]:\n        self.found.append(q)", 5)
+        self.assert_found("while many:\n    pair = self.found[0]\n    for q in list(ys[pair[0][0]]):\n        self.found.append(q)")
+        self.assert_found(
+            "while xs:\n    later = []\n    for x in xs:\n        if x:\n            later.append(x)\n    xs = later", 6)
+        self.assert_found("while xs:\n    later = []\n    for x in list(xs):\n        later.append(x)\n    xs = later")
+        self.assert_found("while xs:\n    later = []\n    for x in xs:\n        later.append(x)\n    xs = list(later)")
+        self.assert_found("row = xs[0]\nfor x in xs[0]:\n    row.append(x)", 4)
+        self.assert_found("a, b = xs, ys\nfor x in a:\n    xs.append(x)", 4)
+        self.assert_found("a, b = xs, ys\nfor x in b:\n    xs.append(x)")
+        self.assert_found("a, *b = xs\nfor x in ys[a]:\n    xs.append(x)", 4)
+        self.assert_found("a = self.told(xs)\nfor x in a:\n    xs.append(x)", 4)
+        self.assert_found("a = b = xs\nb = a\nfor x in b.values():\n    xs[x] = 1", 5)
+        self.assert_found("for row in xs:\n    for x in row:\n        xs.append(x)", 4)
+        self.assert_found("a = sorted(xs)\nfor x in a:\n    xs.append(x)")
+        self.assert_found("if (a := xs[0]):\n    for x in a:\n        xs.append(x)", 4)
 
 
 if __name__ == "__main__":

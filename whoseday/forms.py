@@ -25,7 +25,7 @@ class Forms:
         while len(self.steps) < len(self.found):
             p, kind, zone = self.found[len(self.steps)]
             row = []
-            for q in net.targets_of(p) if past_days or kind != "day" else ():
+            for q in list(net.targets_of(p)) if past_days or kind != "day" else []:
                 later, place, pair = form_copy(net, p, q, kind, zone)
                 form = (q, later, place)
                 if form not in numbers:

@@ -35,7 +35,7 @@ def reached_from(rows, starts):
     waiting = list(starts)
     while waiting:
         node = waiting.pop()
-        for step in rows[node]:
+        for step in list(rows[node]):
             if not found[step[0]]:
                 found[step[0]] = True
                 waiting.append(step[0])
@@ -51,7 +51,7 @@ def short_way(rows, start, goal):
     while before[goal] is None and at < len(line):
         node = line[at]
         at += 1
-        for step in rows[node]:
+        for step in list(rows[node]):
             if before[step[0]] is None:
                 before[step[0]] = node
                 line.append(step[0])
@@ -97,8 +97,8 @@ def costs_after(rows, many, goals):
     ends = {0: (0, 0)}
     for _ in range(many):
         later = {}
-        for node, (low, high) in ends.items():
-            for step in rows[node]:
+        for node, (low, high) in list(ends.items()):
+            for step in list(rows[node]):
                 least, most = later.get(step[0], (low + step[1], high + step[1]))
                 later[step[0]] = (min(least, low + step[1]), max(most, high + step[1]))
         ends = later
@@ -181,7 +181,7 @@ def components(rows):
             while at < len(nodes):
                 node = nodes[at]
                 at += 1
-                for step in back[node]:
+                for step in list(back[node]):
                     if not taken[step[0]]:
                         taken[step[0]] = True
                         nodes.append(step[0])

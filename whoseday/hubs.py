@@ -77,7 +77,7 @@ def _cheapest_rise(part, start):
             return cost
         if (node, risen) not in done:
             done[(node, risen)] = True
-            for goal, more in part[node]:
+            for goal, more in list(part[node]):
                 heappush(waiting, (cost + more, goal, risen or more > 0))
 
 

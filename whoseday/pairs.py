@@ -20,7 +20,7 @@ class Pairs:
         while len(self.steps) < len(self.found):
             pair = self.found[len(self.steps)]
             row = []
-            for q in targets[pair[0][0]]:
+            for q in list(targets[pair[0][0]]):
                 goal, days = pair_copy(copiers, pair, q)
                 if goal not in numbers:
                     if len(self.found) >= most:

@@ -91,7 +91,7 @@ def stray_way(rows, wanted):
     at = 0
     while at < len(line):
         node, moved = line[at]
-        for step in rows[node]:
+        for step in list(rows[node]):
             goal = step[0]
             total = moved + step[1]
             # Two totals are enough: if a third one led to such a way, one of
@@ -115,7 +115,7 @@ def _gap(part):
     gap = 0
     while waiting:
         node = waiting.pop()
-        for goal, cost in part[node]:
+        for goal, cost in list(part[node]):
             if heights[goal] is None:
                 heights[goal] = heights[node] + cost
                 waiting.append(goal)

@@ -71,7 +71,7 @@ class Run:
                 self._before[key] = ahead
                 if past:
                     self._least[node][total % step] = total
-                for goal, more in level[node]:
+                for goal, more in list(level[node]):
                     later = past or marks[goal]
                     if (goal, (cost + more + heights[goal]) % step, later) not in self._before:
                         heappush(waiting, (cost + more, goal, later, key))

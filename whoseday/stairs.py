@@ -86,8 +86,8 @@ def _copies_down(rows, starts, most):
                 least[node] = left
                 front[node] = left
         later = {}
-        for node, left in front.items():
-            for goal, cost in rows[node]:
+        for node, left in list(front.items()):
+            for goal, cost in list(rows[node]):
                 # What is left with fewer copies, and not more of it, is as good.
                 if least[goal] is None or left + cost < least[goal]:
                     least[goal] = left + cost

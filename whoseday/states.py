@@ -105,7 +105,7 @@ def _reached(net, first, end):
     while len(steps) < len(found):
         state = found[len(steps)]
         row = []
-        for q in targets[state[0]]:
+        for q in list(targets[state[0]]):
             goal, days = state_copy(copier, state, q)
             if goal not in numbers:
                 if len(found) >= MOST_STATES:

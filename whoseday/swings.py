@@ -54,7 +54,7 @@ class Swing:
             key = line[at]
             at += 1
             node, rest, rises, falls = key
-            for step in rows[node]:
+            for step in list(rows[node]):
                 goal = step[0]
                 up_there, down_there = self._marks(goal)
                 later = (goal, (rest + step[1]) % self.step, rises or up_there, falls or down_there)
@@ -168,7 +168,7 @@ def _steps_out(part, start):
     while at < len(line):
         node = line[at]
         at += 1
-        for goal, cost in part[node]:
+        for goal, cost in list(part[node]):
             if found[goal] is None:
                 found[goal] = (found[node][0] + cost, node)
                 line.append(goal)

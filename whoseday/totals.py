@@ -84,7 +84,7 @@ def _plain_totals(rows, rings):
     at = 0
     while at < len(line):
         node, total = line[at]
-        for step in inside[node]:
+        for step in list(inside[node]):
             later = (step[0], total + step[1])
             if later not in before:
                 before[later] = (node, total)

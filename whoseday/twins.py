@@ -28,8 +28,8 @@ def parting_walk(one, other, p, entry, end):
         if len(ahead) > MOST_PAIRS:
             raise TooMany(MOST_PAIRS)
         later = []
-        for pair in level:
-            for q in targets[pair[0][0]]:
+        for pair in list(level):
+            for q in list(targets[pair[0][0]]):
                 goal, days = pair_copy(copiers, pair, q)
                 if days != 0:
                     return (*_row_to(ahead, pair), q)
