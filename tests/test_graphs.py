@@ -195,7 +195,7 @@ class GraphsTest(unittest.TestCase):
 class HubsTest(unittest.TestCase):
 
     def check(self, rows, nodes):
-        hub = Hub(rows, nodes)
+        hub = Hub(rows, nodes, Rings(part_of(rows, nodes)).gaps[0])
         steps = hub.chosen_steps()
         self.assertEqual(sorted(steps), sorted(nodes))
         for node, step in steps.items():
@@ -244,16 +244,16 @@ class HubsTest(unittest.TestCase):
 class TotalsTest(unittest.TestCase):
 
     def check(self, rng, rows, groups, bound=BOUND):
-        totals = Totals(rows)
         reach = plain_reach(rows, bound)
         for nodes in groups:
-            days = Days(totals.pieces_at(nodes))
+            totals = Totals(rows, nodes)
+            days = Days(totals.all_pieces())
             wanted = {total for node, total in reach if node in nodes and abs(total) <= NEAR}
             self.assertEqual({total for total in range(-NEAR, NEAR + 1) if total in days}, wanted)
             asked = [rng.randint(-NEAR, NEAR) for _ in range(3)]
             asked += [sign * 10 ** 29 + rng.randint(0, 9) for sign in (1, -1)]
             for total in asked:
-                blocks = totals.blocks(nodes, total)
+                blocks = totals.blocks(total)
                 self.assertEqual(blocks is not None, total in days)
                 if blocks is not None:
                     at, found = 0, 0

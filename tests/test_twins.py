@@ -1,10 +1,11 @@
 """Points 34 to 36: walks at whose end two nets show a point on unlike days, and by how many days."""
 
 import random
+import time
 import unittest
 
 from tests.plain import (
-    KINDS, held, plain_along, plain_copy, plain_shown, plain_state, random_entry, random_net, random_rule, turning_net,
+    KINDS, held, plain_along, plain_copy, plain_shown, plain_state, plain_states, random_entry, random_net, random_rule, turning_net,
 )
 from tests.test_states import is_same
 from tests.values import no_names, odd_values
@@ -215,6 +216,110 @@ class ApartTest(unittest.TestCase):
                 kinds["down"] += days.goes_down
                 kinds["ends"] += not days.goes_up and not days.goes_down
         self.assertTrue(min(kinds.values()) > 20, kinds)
+
+
+def ring(minutes, *lines):
+    """A net whose programs desk and phone copy from each other; each round makes a clock so many minutes later.
+
+    More lines are those of pad and of programs behind it, and of routes.
+    """
+    return Net("\n".join([
+        "zone here 0", f"zone west {-minutes}", "zone far -36", "program desk at here", "  fixed -> float", "program phone at west",
+        "  float -> fixed", "program pad at here", *[line for line in lines if not line.startswith("route")],
+        "route desk phone", "route phone desk", *[line for line in lines if line.startswith("route")],
+    ]))
+
+
+def still(net):
+    """The net in which all programs keep all kinds."""
+    return Net("\n".join(line for line in net.text.split("\n") if not line.startswith(" ")))
+
+
+def seconds(ask):
+    """The least time that a question takes of three times."""
+    times = []
+    for _ in range(3):
+        start = time.perf_counter()
+        ask()
+        times.append(time.perf_counter() - start)
+    return min(times)
+
+
+class RingsTest(unittest.TestCase):
+
+    def check(self, one, other, p, entry, end, near=3):
+        found = plain_pairs(one, other, p, entry, end, near + 1, 20000)
+        for q in one.programs:
+            days = apart(one, other, p, entry, q, end)
+            wanted = {many for state, _, many in found if state[0] == q}
+            self.assertEqual({many for many in range(-near - 1, near + 2) if many in days}, wanted)
+            self.assertEqual((days.goes_down, days.goes_up), (-near - 1 in wanted, near + 1 in wanted))
+
+    def test_programs_in_the_ring_and_one_that_is_not_reached(self):
+        for minutes in (2, 3, -2, 45):
+            net = ring(minutes)
+            for one, other in ((net, still(net)), (still(net), net), (net, net)):
+                self.check(one, other, "desk", FLOAT, 1)
+            up = apart(net, still(net), "phone", FLOAT, "desk", 0)
+            self.assertTrue(Days.same(up, Days([("up" if minutes > 0 else "down", 0, 1)]), -5000, 5000))
+            self.assertEqual(apart(net, still(net), "desk", FLOAT, "pad", 1).pieces, ())
+            self.assertEqual(apart(net, net, "desk", FLOAT, "pad", 0).pieces, ())
+            self.assertEqual(set(apart(net, still(net), "pad", FLOAT, "pad", 0).pieces), {("one", 0)})
+        self.check(ring(45), ring(-45), "desk", FLOAT, 0)
+        self.check(ring(45), ring(90), "phone", Entry("fixed 0 to 1439"), 1)
+
+    def test_programs_behind_the_ring(self):
+        for minutes, *rules in ((3,), (-3,), (2, "  float -> day"), (-2, "  float -> day", "  day -> float 0 1439")):
+            net = ring(minutes, *rules, "route desk pad", "route pad pad")
+            self.check(net, still(net), "desk", FLOAT, 0)
+            self.check(still(net), net, "phone", Entry("fixed 1430 to 1450"), 1)
+            days = apart(net, still(net), "desk", FLOAT, "pad", 0)
+            self.assertEqual((days.goes_up, days.goes_down, 10 ** 30 in days), (minutes > 0, minutes < 0, minutes > 0))
+
+    def test_a_ring_with_a_ring_behind_it(self):
+        # The first ring makes a clock later, the second one earlier, so all differences come up behind both.
+        net = ring(45, "program near at west", "  fixed -> float", "program away at here", "  float -> fixed",
+                   "route desk away", "route away near", "route near away")
+        found = {q: apart(net, still(net), "desk", FLOAT, q, 0) for q in net.programs}
+        self.assertEqual([(days.goes_down, days.goes_up) for days in found.values()],
+                         [(False, True), (False, True), (False, False), (True, True), (True, True)])
+        for q in ("near", "away"):
+            self.assertTrue(Days.same(found[q], Days([("every", 0, 1)]), -5000, 5000))
+
+    def test_a_ring_with_more_pairs_than_allowed(self):
+        # One minute in each round: 1,440 rounds of two copies.
+        for one, other in ((ring(1), still(ring(1))), (ring(1), ring(1)), (ring(-1), ring(1)), (ring(2), ring(-3))):
+            for q in ("desk", "phone", "pad"):
+                with self.assertRaises(TooMany) as caught:
+                    apart(one, other, "desk", FLOAT, q, 1)
+                self.assertEqual(caught.exception.most, 2000)
+
+    def test_rings_of_two_thousand_pairs_and_one_more(self):
+        # 2 * 40 pairs in the ring of start and turn, 2 * 480 in that of desk and phone, 480 each at pad and tail.
+        net = ring(3, "program start at here", "  fixed -> float", "program turn at far", "  float -> fixed",
+                   "program tail at here", "program last at here", "  float -> day",
+                   "route start turn", "route turn start", "route start desk", "route desk pad", "route desk tail")
+        # The other net has one state for each program, so there are as many pairs as the net has states.
+        self.assertEqual(len(plain_states(net, "start", held(FLOAT), 0)[0]), 2000)
+        for q in net.programs:
+            days = apart(net, still(net), "start", FLOAT, q, 0)
+            self.assertEqual((days.goes_up, 0 in days, -1 in days), (q != "last", q != "last", False))
+        for start in ("start", "desk", "tail"):
+            greater = net.with_route(start, "last")
+            self.assertEqual(len(plain_states(greater, "start", held(FLOAT), 0)[0]), 2001)
+            for q in ("start", "pad", "last"):
+                with self.assertRaises(TooMany) as caught:
+                    apart(greater, still(greater), "start", FLOAT, q, 0)
+                self.assertEqual(caught.exception.most, 2000)
+
+    def test_rings_are_told_soon(self):
+        one = Net(
+            "zone here 0\nzone west -2\nprogram desk at here\n  fixed -> float\nprogram phone at west\n"
+            "  float -> fixed\nprogram pad at here\nroute desk phone\nroute phone desk"
+        )
+        for q in ("pad", "desk", "phone"):
+            for mine, yours in ((one, still(one)), (still(one), one), (one, one)):
+                self.assertLess(seconds(lambda: apart(mine, yours, "desk", Entry("float 600 to 659"), q, 1)), 0.2)
 
 
 class ErrorsTest(unittest.TestCase):

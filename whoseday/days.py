@@ -15,14 +15,14 @@ MOST_COPIES = 60
 def days_at(net, p, entry, q, end):
     """The set of the moved days of the point on all walks from p to q."""
     states = states_to(net, p, entry, q, end)
-    return Days(Totals(states.steps).pieces_at(states.at(q)))
+    return Days(Totals(states.steps, states.at(q)).all_pieces())
 
 
 def can_show(net, p, entry, q, end, day):
     """A walk in blocks from p to q with so many moved days; None if there is none."""
     states = states_to(net, p, entry, q, end)
     need_number(day, None, None)
-    blocks = Totals(states.steps).blocks(states.at(q), day)
+    blocks = Totals(states.steps, states.at(q)).blocks(day)
     return None if blocks is None else named_blocks(states, blocks)
 
 

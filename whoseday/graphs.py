@@ -67,10 +67,15 @@ def cost_of(rows, way):
 
 
 def falling_ring(rows):
-    """A way that leads back to its beginning with a cost below 0; None if there is none."""
+    """A way that leads back to its beginning with a cost below 0; None if there is none.
+
+    It is found soon if most steps go to later nodes.
+    """
+    order = range(len(rows))
     costs = [0 for _ in rows]
     before = [None for _ in rows]
-    while _improve(rows, costs, before):
+    fresh = [True for _ in rows]
+    while _improve(rows, order, costs, before, fresh):
         # As soon as costs can fall for ever, the nodes ahead of one another make a ring.
         ring = _ring_in(before)
         if ring is not None:
@@ -83,12 +88,13 @@ def least_costs(rows, start):
 
     Both are None where no way leads. There must be no falling ring.
     """
+    order = _left_in_order(rows, [start])[::-1]
     costs = [None for _ in rows]
     before = [None for _ in rows]
     costs[start] = 0
-    changed = True
-    while changed:
-        changed = _improve(rows, costs, before)
+    fresh = [node == start for node in range(len(rows))]
+    while _improve(rows, order, costs, before, fresh):
+        pass
     return costs, before
 
 
@@ -118,17 +124,23 @@ def _cost_between(rows, node, goal):
     return [step[1] for step in rows[node] if step[0] == goal][0]
 
 
-def _improve(rows, costs, before):
-    """Makes costs less by one step at a time, in one turn; tells whether some became less."""
+def _improve(rows, order, costs, before, fresh):
+    """Makes costs less by one step at a time, in one turn; tells whether some became less.
+
+    The turn goes through the nodes in an order, but only those that are fresh:
+    whose costs became less since the steps from them were looked at.
+    """
     changed = False
-    for node, row in enumerate(rows):
-        if costs[node] is not None:
-            for step in row:
+    for node in order:
+        if fresh[node]:
+            fresh[node] = False
+            for step in rows[node]:
                 goal = step[0]
                 cost = costs[node] + step[1]
                 if costs[goal] is None or cost < costs[goal]:
                     costs[goal] = cost
                     before[goal] = node
+                    fresh[goal] = True
                     changed = True
     return changed
 
@@ -168,42 +180,47 @@ def part_of(rows, nodes):
 def components(rows):
     """The lists of the nodes from each of which ways lead to all others of the list, and back.
 
-    A list comes ahead of those to which ways lead from it.
+    A list comes ahead of those to which ways lead from it, and in a list most
+    steps go to later nodes.
     """
     back = backward(rows)
-    taken = [False for _ in rows]
+    groups = [None for _ in rows]
     found = []
-    for root in _left_in_order(rows)[::-1]:
-        if not taken[root]:
-            taken[root] = True
-            nodes = [root]
-            at = 0
-            while at < len(nodes):
-                node = nodes[at]
-                at += 1
-                for step in list(back[node]):
-                    if not taken[step[0]]:
-                        taken[step[0]] = True
-                        nodes.append(step[0])
-            found.append(nodes)
+    order = _left_in_order(rows, range(len(rows)))[::-1]
+    for root in order:
+        if groups[root] is None:
+            groups[root] = len(found)
+            waiting = [root]
+            while waiting:
+                for step in list(back[waiting.pop()]):
+                    if groups[step[0]] is None:
+                        groups[step[0]] = len(found)
+                        waiting.append(step[0])
+            found.append([])
+    for node in order:
+        found[groups[node]].append(node)
     return found
 
 
-def _left_in_order(rows):
-    """The nodes in the order in which a search that goes deep first leaves them for good."""
+def _left_in_order(rows, roots):
+    """The nodes in the order in which a search from roots that goes deep first leaves them for good.
+
+    Turned round, most steps go on in it: so costs are told soon if the nodes
+    are gone through in that order.
+    """
     seen = [False for _ in rows]
     left = []
-    for root in range(len(rows)):
-        stack = [] if seen[root] else [(root, 0)]
-        seen[root] = True
+    for root in roots:
+        stack = [root]
         while stack:
-            node, at = stack.pop()
-            if at == len(rows[node]):
-                left.append(node)
-            else:
-                stack.append((node, at + 1))
-                goal = rows[node][at][0]
-                if not seen[goal]:
-                    seen[goal] = True
-                    stack.append((goal, 0))
+            node = stack.pop()
+            if node < 0:
+                left.append(-1 - node)
+            elif not seen[node]:
+                seen[node] = True
+                # Below 0 it comes up again behind all that is found from it.
+                stack.append(-1 - node)
+                for step in list(rows[node]):
+                    if not seen[step[0]]:
+                        stack.append(step[0])
     return left

@@ -15,11 +15,11 @@ class Hub:
     node can be made dearer by the steps that are told for it.
     """
 
-    def __init__(self, level, nodes):
+    def __init__(self, level, nodes, gap):
         part = part_of(level, nodes)
         self._nodes = nodes
         self._places = {node: place for place, node in enumerate(nodes)}
-        self._hub = _best_hub(part)
+        self._hub = _best_hub(part, gap)
         out, self._ahead = least_costs(part, self._hub)
         home, self._behind = least_costs(backward(part), self._hub)
         self._trips = [there + back for there, back in zip(home, out)]
@@ -61,10 +61,16 @@ class Hub:
         return [*traced(self._ahead, self._hub, place), *traced(self._behind, self._hub, goal)[::-1]]
 
 
-def _best_hub(part):
-    """Of some nodes the one with the cheapest ring that costs more than 0."""
-    tried = range(0, len(part), max(1, len(part) // TRIED))
-    return min([(_cheapest_rise(part, node), node) for node in tried])[1]
+def _best_hub(part, gap):
+    """Of some nodes the one with the cheapest ring that costs more than 0; all rings cost multiples of gap."""
+    best = None
+    for node in range(0, len(part), max(1, len(part) // TRIED)):
+        cost = _cheapest_rise(part, node)
+        if best is None or cost < best[0]:
+            best = (cost, node)
+        if cost == gap:
+            break
+    return best[1]
 
 
 def _cheapest_rise(part, start):

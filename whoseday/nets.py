@@ -18,6 +18,7 @@ class Net:
         self.zones = tuple(parts.offsets)
         self.programs = tuple(parts.homes)
         self.routes = tuple(parts.routes)
+        self._targets = {p: tuple([goal for start, goal in self.routes if start == p]) for p in self.programs}
         self.text = net_text(parts.offsets, parts.homes, parts.rules, self.routes)
 
     def __eq__(self, other):
@@ -36,7 +37,7 @@ class Net:
     def targets_of(self, p):
         """The programs to which routes lead from a program, in their order."""
         self._need_program(p)
-        return tuple([goal for start, goal in self.routes if start == p])
+        return self._targets[p]
 
     def rule_of(self, p, kind):
         """The rule of a program for a kind, as it stands behind the arrow."""

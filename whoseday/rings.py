@@ -26,7 +26,7 @@ class Rings:
             for node in nodes:
                 self.groups[node] = number
             part = part_of(rows, nodes)
-            gap = _gap(part)
+            gap = _gap(part) if part[0] else 0
             self.gaps.append(gap)
             self.rising.append(_ring_of(turned_costs(part), nodes) if gap else None)
             self.falling.append(_ring_of(part, nodes) if gap else None)

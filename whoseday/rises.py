@@ -14,27 +14,32 @@ from whoseday.hubs import Hub
 class Rises:
     """All totals of ways past rising rings: for each node and rest the least one, by steps.
 
-    groups are the numbers of the components of the nodes, rising and falling
-    tell for each component whether it has such rings.
+    groups are the numbers of the components of the nodes, gaps what the costs
+    of their rings have in common, rising and falling tell for each component
+    whether it has such rings.
     """
 
-    def __init__(self, rows, groups, rising, falling):
+    def __init__(self, rows, groups, gaps, rising, falling):
         self._runs = []
         self._hubs = {}
         calm = [falling[group] is None for group in groups]
-        if not calm[0]:
+        if not calm[0] or all([ring is None for ring in rising]):
             return
         inside = kept_inside(rows, calm)
         heights, _ = least_costs(inside, 0)
         level = _leveled(inside, heights)
         steps = {}
-        for hub in _hubs(level, heights, groups, rising):
+        for hub in _hubs(level, heights, groups, gaps, rising):
             for node, step in hub.chosen_steps().items():
                 self._hubs[node] = hub
                 steps[node] = step
         for step in sorted({one for one in steps.values()}):
             marks = [steps.get(node) == step for node in range(len(level))]
             self._runs.append(Run(level, heights, marks, step))
+            # All totals of ways past a marked node are told now, the others come past none.
+            if marks[0]:
+                break
+            level = kept_inside(level, [not marked for marked in marks])
 
     def starts(self, node):
         """The pairs (least, step) of the totals at a node: least, least + step, and so on."""
@@ -99,10 +104,10 @@ def _leveled(rows, heights):
     ]
 
 
-def _hubs(level, heights, groups, rising):
+def _hubs(level, heights, groups, gaps, rising):
     """A hub for each component with a rising ring to which a way leads."""
     members = {}
     for node, group in enumerate(groups):
         if heights[node] is not None and rising[group] is not None:
             members.setdefault(group, []).append(node)
-    return [Hub(level, nodes) for nodes in members.values()]
+    return [Hub(level, nodes, gaps[group]) for group, nodes in members.items()]

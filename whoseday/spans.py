@@ -5,9 +5,9 @@ from whoseday.days import MOST_COPIES
 from whoseday.graphs import costs_after, short_way
 from whoseday.pairs import Pairs, pair_blocks
 from whoseday.pieces import Days
-from whoseday.points import Copier, need_known
+from whoseday.points import need_known
 from whoseday.rings import Rings
-from whoseday.states import first_state
+from whoseday.states import Leads
 from whoseday.totals import Totals
 from whoseday.words import need_number
 
@@ -17,14 +17,14 @@ MOST_PAIRS = 1000
 def spans_at(net, p, entry, q):
     """The set of the spans at the ends of all walks from p to q."""
     pairs, first = _pairs(net, p, entry, q)
-    return Days(Totals(pairs.steps).pieces_at(pairs.at(q))).moved(first)
+    return Days(Totals(pairs.steps, pairs.at(q)).all_pieces()).moved(first)
 
 
 def span_walk(net, p, entry, q, span):
     """A walk in blocks from p to q that ends with a span; None if there is none."""
     pairs, first = _pairs(net, p, entry, q)
     need_number(span, None, None)
-    blocks = Totals(pairs.steps).blocks(pairs.at(q), span - first)
+    blocks = Totals(pairs.steps, pairs.at(q)).blocks(span - first)
     return None if blocks is None else pair_blocks(pairs, blocks)
 
 
@@ -62,7 +62,6 @@ def _pairs(net, p, entry, q):
     net.home_of(p)
     net.home_of(q)
     need_known(net, p, entry)
-    ends = (first_state(p, entry, 0), first_state(p, entry, 1))
-    pairs = Pairs(net, (Copier(net, 0), Copier(net, 1)), ends, MOST_PAIRS)
+    pairs = Pairs(Leads(net, p, entry, 0), Leads(net, p, entry, 1), MOST_PAIRS)
     early, late = shown(net, p, entry)
     return pairs, late - early + 1

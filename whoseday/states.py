@@ -8,6 +8,74 @@ from whoseday.words import is_integer
 MOST_STATES = 1000
 
 
+class Leads:
+    """Where copies lead states of a point, the first or the last one, in a net.
+
+    The states are numbered as they come up, the one to begin with by 0. Each
+    answer is kept, as walks come together again. Here a state is told by one
+    integer: DAY times the number of its form (program, kind, zone), and its rest.
+    """
+
+    def __init__(self, net, p, entry, end):
+        self._net = net
+        self._copier = Copier(net, end)
+        self._forms = [(p, entry.kind, entry.zone)]
+        self._form_numbers = {self._forms[0]: 0}
+        # For each form what _copies_of tells, for each state what steps_from tells.
+        self._copies = [None]
+        self._steps = [None]
+        self._states = [minutes_of(entry.kind, entry.last if end == 1 else entry.first) % DAY]
+        self._numbers = {self._states[0]: 0}
+
+    def count_states(self):
+        """How many states have come up so far."""
+        return len(self._states)
+
+    def state_of(self, number):
+        """The state with a number, as a tuple (program, kind, zone, rest)."""
+        form, rest = divmod(self._states[number], DAY)
+        return (*self._forms[form], rest)
+
+    def program_of(self, number):
+        """The program of the state with a number."""
+        return self._forms[self._states[number] // DAY][0]
+
+    def steps_from(self, number):
+        """The tuples (number, days, name), one for each route: where a copy leads, and how far it moves the point."""
+        if self._steps[number] is None:
+            self._steps[number] = self._new_steps(*divmod(self._states[number], DAY))
+        return self._steps[number]
+
+    def _new_steps(self, form, rest):
+        if self._copies[form] is None:
+            self._copies[form] = self._copies_of(*self._forms[form])
+        lead, copies = self._copies[form]
+        ahead = (rest + lead) // DAY
+        row = []
+        for goal, more, rounds, behind, q in copies:
+            minutes = rest + more
+            state = DAY * goal + (0 if rounds else minutes % DAY)
+            if state not in self._numbers:
+                self._numbers[state] = len(self._states)
+                self._states.append(state)
+                self._steps.append(None)
+            row.append((self._numbers[state], (minutes + behind) // DAY - ahead, q))
+        return tuple(row)
+
+    def _copies_of(self, p, kind, zone):
+        """How far the clock at p is ahead of the minutes of such points, and what each copy makes of them."""
+        copies = []
+        for q in self._net.targets_of(p):
+            later, place, more, rounds = self._copier.effect(q, kind, zone)
+            form = (q, later, place)
+            if form not in self._form_numbers:
+                self._form_numbers[form] = len(self._forms)
+                self._forms.append(form)
+                self._copies.append(None)
+            copies.append((self._form_numbers[form], more, rounds, self._copier.lead(*form), q))
+        return self._copier.lead(p, kind, zone), copies
+
+
 class States:
     """The reached states of a point of an entry that a program holds at first.
 
@@ -18,7 +86,7 @@ class States:
 
     def __init__(self, net, p, entry, end):
         need_point(net, p, entry, end)
-        found, steps = _reached(net, first_state(p, entry, end), end)
+        found, steps = _reached(Leads(net, p, entry, end))
         self._net = net
         self._before = _ways(steps)
         self.found = tuple(found)
@@ -71,20 +139,6 @@ class States:
         return tuple(names[::-1])
 
 
-def first_state(p, entry, end):
-    """The state of a point of an entry that a program holds."""
-    minutes = minutes_of(entry.kind, entry.last if end == 1 else entry.first)
-    return p, entry.kind, entry.zone, minutes % DAY
-
-
-def state_copy(copier, state, q):
-    """The state to which a copy leads from a state, and the days that it moves the point."""
-    p, kind, zone, rest = state
-    ahead = copier.day(p, kind, zone, rest)
-    kind, zone, minutes = copier.carry(q, kind, zone, rest)
-    return (q, kind, zone, minutes % DAY), copier.day(q, kind, zone, minutes) - ahead
-
-
 def names_on(states, way):
     """The row of a way of states: the names of the programs to which the entry is copied."""
     return tuple([states.found[index][0] for index in way[1:]])
@@ -95,26 +149,14 @@ def named_blocks(states, blocks):
     return tuple([(names_on(states, way), times) for way, times in blocks if len(way) > 1 and times > 0])
 
 
-def _reached(net, first, end):
+def _reached(leads):
     """The reached states and the steps from each of them, in their order."""
-    copier = Copier(net, end)
-    targets = {p: net.targets_of(p) for p in net.programs}
-    found = [first]
-    numbers = {first: 0}
     steps = []
-    while len(steps) < len(found):
-        state = found[len(steps)]
-        row = []
-        for q in list(targets[state[0]]):
-            goal, days = state_copy(copier, state, q)
-            if goal not in numbers:
-                if len(found) >= MOST_STATES:
-                    raise TooMany(MOST_STATES)
-                numbers[goal] = len(found)
-                found.append(goal)
-            row.append((numbers[goal], days, q))
-        steps.append(tuple(row))
-    return found, steps
+    while len(steps) < leads.count_states():
+        steps.append(leads.steps_from(len(steps)))
+        if leads.count_states() > MOST_STATES:
+            raise TooMany(MOST_STATES)
+    return [leads.state_of(number) for number in range(len(steps))], steps
 
 
 def _ways(steps):

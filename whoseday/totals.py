@@ -1,43 +1,56 @@
 """The costs of all ways from node 0 of a graph, and ways that have a given cost."""
 
-from whoseday.graphs import keyed_way, kept_inside, turned_costs
+from whoseday.graphs import backward, keyed_way, kept_inside, part_of, reached_from, turned_costs
 from whoseday.rings import Rings
 from whoseday.rises import Rises
 from whoseday.swings import Swings
 
 
 class Totals:
-    """The totals, costs of all steps together, of all ways of no or more steps from node 0.
+    """The totals, costs of all steps together, of all ways of no or more steps from node 0 to some nodes.
 
     A way comes past no ring that costs anything, or past rings that cost more
     than 0 alone, or less alone, or past both: each is looked at on its own.
     """
 
-    def __init__(self, rows):
-        rings = Rings(rows)
-        self._plain = _plain_totals(rows, rings)
-        self._rises = Rises(rows, rings.groups, rings.rising, rings.falling)
-        self._drops = Rises(turned_costs(rows), rings.groups, rings.falling, rings.rising)
-        self._swings = Swings(rows, rings)
+    def __init__(self, rows, goals):
+        # Nodes from which no goal is reached are left out; the others go by their places.
+        leading = reached_from(backward(rows), goals)
+        leading[0] = True
+        self._nodes = [node for node in range(len(rows)) if leading[node]]
+        places = {node: place for place, node in enumerate(self._nodes)}
+        self._goals = [places[node] for node in goals]
+        part = part_of(rows, self._nodes)
+        rings = Rings(part)
+        self._plain = _plain_totals(part, rings)
+        self._rises = Rises(part, rings.groups, rings.gaps, rings.rising, rings.falling)
+        self._drops = Rises(turned_costs(part), rings.groups, rings.gaps, rings.falling, rings.rising)
+        self._swings = Swings(part, rings)
 
-    def pieces_at(self, nodes):
-        """The pieces of the set of the totals at some nodes."""
-        wanted = {node: True for node in nodes}
-        found = [("one", total) for node, total in self._plain if node in wanted]
-        for node in nodes:
-            found.extend([("up", start, step) for start, step in self._rises.starts(node)])
-            found.extend([("down", -start, step) for start, step in self._drops.starts(node)])
-            found.extend([("every", rest, step) for rest, step in self._swings.rests(node)])
+    def all_pieces(self):
+        """The pieces of the set of the totals."""
+        wanted = {place: True for place in self._goals}
+        found = [("one", total) for place, total in self._plain if place in wanted]
+        for place in self._goals:
+            found.extend([("up", start, step) for start, step in self._rises.starts(place)])
+            found.extend([("down", -start, step) for start, step in self._drops.starts(place)])
+            found.extend([("every", rest, step) for rest, step in self._swings.rests(place)])
         return slimmed(found)
 
-    def blocks(self, nodes, total):
-        """A way in blocks, pairs (way, times), to one of some nodes with a total; None if there is none."""
-        for node in nodes:
-            if (node, total) in self._plain:
-                return [(keyed_way(self._plain, (node, total)), 1)]
-        for node in nodes:
+    def blocks(self, total):
+        """A way in blocks, pairs (way, times), with a total; None if there is none."""
+        found = self._blocks_of_places(total)
+        if found is None:
+            return None
+        return [([self._nodes[place] for place in way], times) for way, times in found]
+
+    def _blocks_of_places(self, total):
+        for place in self._goals:
+            if (place, total) in self._plain:
+                return [(keyed_way(self._plain, (place, total)), 1)]
+        for place in self._goals:
             for blocks in (
-                self._rises.blocks(node, total), self._drops.blocks(node, -total), self._swings.blocks(node, total),
+                self._rises.blocks(place, total), self._drops.blocks(place, -total), self._swings.blocks(place, total),
             ):
                 if blocks is not None:
                     return short_blocks(blocks)

@@ -2,10 +2,10 @@
 
 from whoseday.copies import shown
 from whoseday.errors import OtherPrograms, OtherRoutes, TooMany
-from whoseday.pairs import Pairs, pair_copy
+from whoseday.pairs import Pairs, pair_steps
 from whoseday.pieces import Days
-from whoseday.points import Copier, need_known
-from whoseday.states import first_state
+from whoseday.points import need_known
+from whoseday.states import Leads
 from whoseday.totals import Totals
 from whoseday.words import need_number
 
@@ -17,11 +17,9 @@ def parting_walk(one, other, p, entry, end):
     _need_twins(one, other, (p,), entry, end)
     if _first_days(one, other, p, entry, end) != 0:
         return ()
-    copiers = (Copier(one, end), Copier(other, end))
-    targets = {q: one.targets_of(q) for q in one.programs}
-    state = first_state(p, entry, end)
+    mine, yours = Leads(one, p, entry, end), Leads(other, p, entry, end)
     # Each pair with the one ahead of it; both nets show the same day in all of them.
-    ahead = {(state, state): None}
+    ahead = {(0, 0): None}
     level = list(ahead)
     while level:
         # Walks that part have more copies than those to all pairs so far.
@@ -29,10 +27,9 @@ def parting_walk(one, other, p, entry, end):
             raise TooMany(MOST_PAIRS)
         later = []
         for pair in list(level):
-            for q in list(targets[pair[0][0]]):
-                goal, days = pair_copy(copiers, pair, q)
+            for goal, days, q in pair_steps(mine, yours, pair):
                 if days != 0:
-                    return (*_row_to(ahead, pair), q)
+                    return (*_row_to(mine, ahead, pair), q)
                 if goal not in ahead:
                     ahead[goal] = pair
                     later.append(goal)
@@ -43,9 +40,8 @@ def parting_walk(one, other, p, entry, end):
 def apart(one, other, p, entry, q, end):
     """The set of all days in the first net less those in the second one, at the ends of walks from p to q."""
     _need_twins(one, other, (p, q), entry, end)
-    state = first_state(p, entry, end)
-    pairs = Pairs(one, (Copier(other, end), Copier(one, end)), (state, state), MOST_PAIRS)
-    days = Days(Totals(pairs.steps).pieces_at(pairs.at(q)))
+    pairs = Pairs(Leads(other, p, entry, end), Leads(one, p, entry, end), MOST_PAIRS)
+    days = Days(Totals(pairs.steps, pairs.at(q)).all_pieces())
     return days.moved(_first_days(one, other, p, entry, end))
 
 
@@ -67,10 +63,10 @@ def _first_days(one, other, p, entry, end):
     return shown(one, p, entry)[end] - shown(other, p, entry)[end]
 
 
-def _row_to(ahead, pair):
+def _row_to(leads, ahead, pair):
     """The names of the programs on the way to a pair that the pairs ahead of one another tell."""
     names = []
     while ahead[pair] is not None:
-        names.append(pair[0][0])
+        names.append(leads.program_of(pair[0]))
         pair = ahead[pair]
     return tuple(names[::-1])

@@ -17,7 +17,7 @@ def shifts(net, p, entry, q, end, *, cycle=7):
     states = states_to(net, p, entry, q, end)
     need_number(cycle, 1, MOST_CYCLE)
     found = {}
-    for piece in Totals(states.steps).pieces_at(states.at(q)):
+    for piece in Totals(states.steps, states.at(q)).all_pieces():
         # A piece without an end comes by all rests of some step.
         step = cycle if piece[0] == "one" else gcd(piece[2], cycle)
         for rest in range(piece[1] % step, cycle, step):
@@ -45,7 +45,7 @@ def next_on(net, p, entry, q, end, low, rest, *, cycle=7):
     need_number(low, None, None)
     need_number(rest, 0, cycle - 1)
     first = shown(net, p, entry)[end]
-    pieces = Totals(states.steps).pieces_at(states.at(q))
+    pieces = Totals(states.steps, states.at(q)).all_pieces()
     found = [_next_with(piece, low - first, (rest - first) % cycle, cycle) for piece in pieces]
     return min([first + days for days in found if days is not None], default=None)
 
@@ -54,11 +54,11 @@ def mixed_up(net, p, entry, q, end, every):
     """Two walks in blocks from p to q by which unlike repeats show on one day; None if there are none."""
     states = states_to(net, p, entry, q, end)
     need_number(every, 1, MOST_CYCLE)
-    totals = Totals(states.steps)
-    days = _days_apart(totals.pieces_at(states.at(q)), every)
+    totals = Totals(states.steps, states.at(q))
+    days = _days_apart(totals.all_pieces(), every)
     if days is None:
         return None
-    one, other = [named_blocks(states, totals.blocks(states.at(q), many)) for many in days]
+    one, other = [named_blocks(states, totals.blocks(many)) for many in days]
     return one, other
 
 
