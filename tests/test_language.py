@@ -343,6 +343,24 @@ class LanguageTest(unittest.TestCase):
         for name, tree in trees().items():
             self.assertEqual(changed_rows(tree), [], name)
 
+    def test_what_is_iterated_at_once(self):
+        takers = {"list", "tuple", "dict", "sorted", "sum", "any", "all", "enumerate", "zip", "min", "max", "reversed", "len"}
+        for name, tree in trees().items():
+            allowed = set()
+            for node in ast.walk(tree):
+                if isinstance(node, (ast.For, ast.comprehension)):
+                    allowed.add(id(node.iter))
+                elif isinstance(node, ast.Call) and isinstance(node.func, ast.Name) and node.func.id in takers:
+                    allowed.update(id(part) for part in node.args)
+                elif isinstance(node, ast.Compare) and isinstance(node.ops[0], (ast.In, ast.NotIn)):
+                    allowed.add(id(node.comparators[0]))
+            for node in ast.walk(tree):
+                if isinstance(node, ast.Call):
+                    lazy = isinstance(node.func, ast.Name) and node.func.id in ("range", "zip", "enumerate", "reversed")
+                    view = isinstance(node.func, ast.Attribute) and node.func.attr in ("items", "keys", "values")
+                    if lazy or view:
+                        self.assertTrue(id(node) in allowed, (name, node.lineno))
+
     def test_handlers_name_their_errors(self):
         barred = {"Exception", "TypeError", "ArithmeticError", "OverflowError", "RuntimeError",
                   "NotImplementedError", "AttributeError", "BaseException"}

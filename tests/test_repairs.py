@@ -6,7 +6,7 @@ import unittest
 
 from tests.plain import KINDS, held, plain_states, random_entry, random_net, random_rule, turning_net
 from tests.test_states import DAY, FLOAT as ZERO, MORE, N, THOUSAND, is_same
-from tests.test_twins import FLOAT, K, M
+from tests.test_twins import FLOAT, K, M, seconds
 from tests.values import no_names, odd_values
 from whoseday.bands import is_right
 from whoseday.entries import Entry
@@ -21,8 +21,9 @@ EAST = Entry("zoned 0 to 0 east")
 def plain_holds(net, p, entry, width):
     if width is not None:
         return is_right(net, p, entry, width)
-    both = [plain_states(net, p, held(entry), end) for end in (0, 1)]
-    if max(len(found) for found, _ in both) > 1000:
+    try:
+        both = [plain_states(net, p, held(entry), end, 1000) for end in (0, 1)]
+    except RuntimeError:
         raise TooMany(1000)
     return not any(days for _, steps in both for row in steps for _, days, _ in row)
 
@@ -244,6 +245,153 @@ class RepairTest(unittest.TestCase):
         with self.assertRaises(TooMany):
             repair(net, "a", entry, [("a", "day", "keep"), ("c", "day", "fixed 0 0"), slow])
         self.assertIsNone(repair(net, "a", entry, [("a", "day", "keep"), ("c", "day", "fixed 0 0")]))
+
+
+def star(leaves, offset=-840):
+    """A net in which a program has all that desk has; what is zoned shows elsewhere there, unless it is taken as if."""
+    lines = ["zone here 0", f"zone west {offset}", "program desk at here", *[f"program {name} at west" for name in leaves]]
+    return Net("\n".join(lines + [f"route desk {name}" for name in leaves]))
+
+
+LEAVES = ["aa", "bb", "cc", "dd", "ee", "ff", "gg", "hh"]
+ZONED = Entry("zoned 0 to 59 here")
+MENDS = [(name, "zoned", "as if") for name in LEAVES]
+# c and d lead the clock of what a has to another day, and so do e and f; a and b can come to make it ever later.
+WANDERING = Net(
+    "zone here 0\nzone west -1\nzone far -840\nprogram a at here\nprogram b at west\nprogram c at far\n  float -> fixed\n"
+    "program d at here\nprogram e at far\n  float -> fixed\nprogram f at here\n"
+    "route a b\nroute b a\nroute a c\nroute c d\nroute a e\nroute e f"
+)
+MEND_C, MEND_E = ("c", "float", "keep"), ("e", "float", "keep")
+TURN_A, TURN_B = ("a", "fixed", "float"), ("b", "float", "fixed")
+
+
+class StarTest(unittest.TestCase):
+
+    def check(self, net, entry, changes, wanted):
+        for width in (None, 1, 5, 840, 1680):
+            self.assertEqual(repair(net, "desk", entry, changes, width), wanted)
+
+    def test_all_eight_changes(self):
+        self.check(star(LEAVES), ZONED, MENDS, (0, 1, 2, 3, 4, 5, 6, 7))
+        self.assertEqual(repair(star(LEAVES), "desk", ZONED, MENDS, 0), ())
+        for many in range(8):
+            self.check(star(LEAVES[:many]), ZONED, MENDS[:many], tuple(range(many)))
+
+    def test_no_change_is_needed(self):
+        self.check(star(LEAVES), Entry("float 0 to 59"), MENDS, ())
+        self.check(star([]), ZONED, [("desk", "zoned", "as if")] * 8, ())
+        self.assertEqual(repair(star(LEAVES, 0), "desk", ZONED, MENDS), ())
+        self.assertEqual(repair(star(LEAVES), "desk", Entry("zoned 840 to 1439 here"), MENDS), ())
+
+    def test_one_change(self):
+        self.check(star(["aa"]), ZONED, MENDS[:1], (0,))
+        self.check(star(["aa"]), ZONED, [("desk", "zoned", "as if"), ("aa", "float", "fixed"), ("aa", "zoned", "own float")], (2,))
+        self.check(star(["aa", "bb"]).without_route("desk", "bb"), ZONED, [MENDS[1], MENDS[0]], (1,))
+
+    def test_nothing_mends(self):
+        self.check(star(LEAVES), ZONED, MENDS[:7], None)
+        self.check(star(LEAVES), ZONED, [], None)
+        self.check(star(LEAVES), ZONED, [(name, "zoned", "moved") for name in LEAVES], None)
+        self.check(star(LEAVES), ZONED, [*MENDS[:7], ("hh", "zoned", "home float")], None)
+        self.check(star(LEAVES), ZONED, [*MENDS[:7], ("hh", "float", "zoned")], None)
+
+    def test_two_changes_for_one_program_and_kind(self):
+        self.check(star(["aa"]), ZONED, [("aa", "zoned", "moved"), ("aa", "zoned", "as if")], (1,))
+        self.check(star(["aa"]), ZONED, [("aa", "zoned", "as if"), ("aa", "zoned", "own float")], (0,))
+        self.check(star(["aa", "bb"]), ZONED, [
+            ("aa", "zoned", "home float"), MENDS[1], ("bb", "zoned", "moved"), ("aa", "zoned", "own day"), MENDS[0], MENDS[1],
+        ], (1, 3))
+        self.check(star(["aa", "bb"]), ZONED, [("aa", "zoned", "moved"), ("aa", "zoned", "fixed"), MENDS[1]], None)
+
+    def test_changes_that_change_nothing(self):
+        keeps = [(name, "zoned", "keep") for name in LEAVES]
+        self.check(star(LEAVES), ZONED, keeps, None)
+        self.check(star(LEAVES[:3]), ZONED, [keeps[0], MENDS[2], keeps[2], MENDS[0], keeps[1], MENDS[1], MENDS[1], keeps[0]], (1, 3, 5))
+        self.check(star(["aa"]), ZONED, [("aa", "zoned", "keep"), ("aa", "zoned", "as if")], (1,))
+        mended = star(LEAVES).with_rule("aa", "zoned", "as if")
+        self.check(mended, ZONED, MENDS, (1, 2, 3, 4, 5, 6, 7))
+        self.check(mended, ZONED, [("aa", "zoned", "keep"), *MENDS[1:]], (1, 2, 3, 4, 5, 6, 7))
+
+    def test_random_stars(self):
+        rng = random.Random(41)
+        told = {}
+        for _ in range(60):
+            leaves = LEAVES[:rng.randint(1, 4)]
+            net = star(leaves, rng.choice([-840, -300, 720]))
+            for name in leaves:
+                if rng.random() < 0.3:
+                    net = net.with_rule(name, "zoned", random_rule(rng, "zoned"))
+                if rng.random() < 0.3:
+                    net = net.with_route(name, rng.choice(["desk", *leaves]))
+            changes = [(rng.choice(leaves), "zoned", random_rule(rng, "zoned")) for _ in range(rng.randint(0, 2))]
+            changes += [one for one in MENDS[:len(leaves)] if rng.random() < 0.9]
+            rng.shuffle(changes)
+            entry = rng.choice([ZONED, Entry("zoned 0 to 600 west"), Entry("fixed 0 to 59")])
+            for width in (None, 1, 300):
+                found = told_by(repair, net, "desk", entry, changes, width)
+                self.assertEqual(found, told_by(plain_repair, net, "desk", entry, changes, width))
+                told[found if found is None else len(found)] = True
+        self.assertTrue({None, 0, 1, 2, 3} <= set(told), told)
+
+    def test_it_is_told_soon(self):
+        for width in (None, 1, 5, 840):
+            for changes in (MENDS, MENDS[:7], [*MENDS[:7], ("hh", "float", "day")]):
+                self.assertLess(seconds(lambda: repair(star(LEAVES), "desk", ZONED, changes, width)), 0.05)
+
+
+class OrderTest(unittest.TestCase):
+    """Nets with too many states count if they are looked at, ahead of the first one that holds."""
+
+    def assert_too_many(self, changes):
+        with self.assertRaises(TooMany) as caught:
+            repair(WANDERING, "a", FLOAT, changes)
+        self.assertEqual(caught.exception.most, 1000)
+
+    def test_one_wandering_change_is_ahead_of_two(self):
+        turned = WANDERING.with_rule("a", "fixed", "float")
+        for changes in ([MEND_C, MEND_E, TURN_B], [TURN_B, MEND_C, MEND_E], [MEND_C, TURN_B]):
+            with self.assertRaises(TooMany):
+                repair(turned, "a", FLOAT, changes)
+            self.assertEqual(told_by(plain_repair, turned, "a", FLOAT, changes, None), "more than 1000")
+        self.assertEqual(repair(turned, "a", FLOAT, [MEND_C, MEND_E]), (0, 1))
+        one = turned.without_program("f")
+        self.assertEqual(repair(one, "a", FLOAT, [MEND_C, TURN_B]), (0,))
+        with self.assertRaises(TooMany):
+            repair(one, "a", FLOAT, [TURN_B, MEND_C])
+        # Within a width no states are counted.
+        self.assertEqual(repair(turned, "a", FLOAT, [TURN_B, MEND_C, MEND_E], 601), (1, 2))
+
+    def test_two_wandering_changes_ahead_of_two_or_behind(self):
+        self.assert_too_many([TURN_A, TURN_B, MEND_C, MEND_E])
+        self.assert_too_many([TURN_B, MEND_C, TURN_A])
+        self.assertEqual(repair(WANDERING, "a", FLOAT, [MEND_C, TURN_B, MEND_E, TURN_A]), (0, 2))
+        self.assertEqual(repair(WANDERING, "a", FLOAT, [MEND_C, MEND_E, TURN_B, TURN_A]), (0, 1))
+        self.assert_too_many([TURN_A, TURN_B, MEND_E])
+        self.assertIsNone(repair(WANDERING, "a", FLOAT, [MEND_C, TURN_A, ("b", "float", "zoned")]))
+
+    def test_three_changes_behind_others_that_lead_too_far(self):
+        # Any two of the three are too few, and the two that wander come behind the last tuple of three that is needed.
+        net = WANDERING.with_program("g", "far").with_rule("g", "float", "fixed").with_route("a", "g")
+        net = net.with_program("h", "here").with_route("g", "h")
+        mend_g = ("g", "float", "keep")
+        self.assertEqual(repair(net, "a", FLOAT, [MEND_C, MEND_E, mend_g, TURN_A]), (0, 1, 2))
+        self.assertEqual(told_by(repair, net, "a", FLOAT, [MEND_C, MEND_E, mend_g, TURN_A, TURN_B]), "more than 1000")
+        # One point has too many states already, whatever days they show.
+        self.assertEqual(told_by(repair, net.with_rule("a", "fixed", "float").with_rule("b", "float", "fixed"),
+                                 "a", FLOAT, [MEND_C, MEND_E, mend_g]), "more than 1000")
+
+    def test_wandering_changes_beside_many_others(self):
+        rng = random.Random(42)
+        told = {}
+        for _ in range(25):
+            net = WANDERING.with_offset("west", rng.choice([-2, -90, -360]))
+            changes = rng.sample([MEND_C, MEND_E, TURN_A, TURN_B, ("d", "fixed", "day"), ("b", "fixed", "zoned")], 4)
+            found = told_by(repair, net, "a", FLOAT, changes)
+            self.assertEqual(found, told_by(plain_repair, net, "a", FLOAT, changes, None))
+            told[found] = True
+        self.assertGreater(len(told), 2)
+
 
 class CutTest(unittest.TestCase):
 

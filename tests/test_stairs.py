@@ -7,6 +7,7 @@ import unittest
 from tests.plain import held, plain_copy, plain_shown, random_entry, random_net, turning_net
 from tests.test_bands import FIXED, NOON, RING, walks
 from tests.test_states import DAY, N, field_of
+from tests.test_twins import seconds
 from tests.test_unknown import NET
 from tests.values import no_names, odd_values
 from whoseday.bands import is_right, right_hours, right_minutes, widest, wrong
@@ -40,6 +41,45 @@ def plain_right(net, p, entry, width, copies):
             if any(plain_shown(other, at, one) != days for at, one in level):
                 return False
     return True
+
+
+def plain_widest_after(net, p, entry, n):
+    """The greatest width behind n copies, by all walks: what each has added to a clock, zone by zone."""
+    rooms = {origin.program: origin.room for origin in origins(net, p, entry)[0 if entry.kind == "day" else 1:]}
+    room = None if entry.kind == "day" else origins(net, p, entry)[0].room
+    level = {(p, entry.kind, entry.zone, room, (0,) * len(net.zones))}
+    bound = None
+    for _ in range(n):
+        later = set()
+        for q, kind, zone, room, sums in level:
+            for goal in net.targets_of(q):
+                new_kind, new_zone, pair = added(net, q, goal, kind, zone)
+                if kind == "day":
+                    later.add((goal, new_kind, new_zone, None if new_kind == "day" else rooms[goal], (0,) * len(sums)))
+                    continue
+                found = list(sums)
+                for name, count in zip(pair or (), (1, -1)):
+                    found[net.zones.index(name)] += count
+                worst = sum(count for count in found if count > 0)
+                if worst > 0:
+                    bound = room // worst if bound is None else min(bound, room // worst)
+                if new_kind == "day":
+                    later.add((goal, "day", None, None, (0,) * len(sums)))
+                else:
+                    later.add((goal, new_kind, new_zone, room, tuple(found)))
+        level = later
+    return bound
+
+
+# A row of ten programs in which clocks lose one zone and gain another one.
+ROW = Net(
+    "zone a 0\nzone b -567\nzone c -840\nzone d -697\nzone e -28\nzone f -583\nprogram pa at e\n  fixed -> float\n"
+    "program pb at b\n  float -> fixed\nprogram pc at b\n  float -> zoned\nprogram pd at e\n  fixed -> float\n"
+    "program pe at b\n  float -> fixed\nprogram pf at e\n  fixed -> float\nprogram pg at b\n  float -> zoned\n"
+    "program ph at e\n  zoned -> home float\nprogram pi at e\n  fixed -> float\nprogram pj at b\n"
+    "route ph pb\nroute pf pc\nroute pe pa\nroute pc ph\nroute pb pd\nroute pd pe\nroute pa pg\nroute pj pf\nroute pg pi"
+)
+LONG = Entry("fixed 1275184 to 1276391")
 
 
 class ExamplesTest(unittest.TestCase):
@@ -191,6 +231,82 @@ class StairsTest(unittest.TestCase):
         self.assertEqual(len(walks(NET, "p", 3)), 5)
         self.assertIs(plain_right(NET, "p", FIXED, 600, 2), True)
         self.assertIs(plain_right(NET, "p", FIXED, 601, 1), False)
+
+
+class RowsTest(unittest.TestCase):
+
+    def check(self, net, p, entry, numbers):
+        found = [widest_after(net, p, entry, n) for n in numbers]
+        self.assertEqual(found, [plain_widest_after(net, p, entry, n) for n in numbers])
+        return found
+
+    def row_of(self, rng, many, zones, *routes):
+        """A net of programs, each of which copies from the one ahead of it."""
+        names = [f"p{letter}" for letter in "abcdefghijkl"[:many]]
+        lines = [f"zone {zone} {rng.randint(-840, 840)}" for zone in zones]
+        for name in names:
+            lines.append(f"program {name} at {rng.choice(zones)}")
+            lines.extend(rng.sample(["  fixed -> float", "  float -> fixed", "  float -> zoned", "  zoned -> home float",
+                                     "  day -> zoned 300 1100"], 2) if rng.random() < 0.8 else ["  fixed -> float"])
+            if lines[-1].split(" -> ")[0] == lines[-2].split(" -> ")[0]:
+                lines.pop()
+        rng.shuffle(names)
+        pairs = [*zip(names, names[1:]), *[(names[one], names[other]) for one, other in routes]]
+        return Net("\n".join(lines + [f"route {one} {other}" for one, other in pairs])), names
+
+    def test_a_row_that_goes_on_losing_and_gaining(self):
+        found = self.check(ROW, "pj", LONG, [0, 1, 2, 3, 4, 5, 6, 7, 8, 9, 10, 11, 30, 60])
+        self.assertEqual((found[0], found[1], found[-1]), (None, 15, 3))
+        self.assertEqual(found[9:], [3] * 5)
+        # The clock of a day gets its minutes by a rule, and not by the entry.
+        later = ROW.with_rule("pc", "float", "day").with_rule("ph", "day", "float 100 1300")
+        self.check(later, "pj", LONG, [0, 1, 2, 3, 4, 5, 6, 7, 8, 9, 60])
+
+    def test_rows_of_all_lengths(self):
+        rng = random.Random(35)
+        told = set()
+        for _ in range(80):
+            many = rng.randint(1, 12)
+            net, names = self.row_of(rng, many, "abcdef"[:rng.randint(2, 6)])
+            first = rng.randint(-9000, 9000)
+            entry = Entry(f"{rng.choice(['fixed', 'float'])} {first} to {first + rng.choice([0, 59, 900])}")
+            told.update(self.check(net, names[0], entry, [0, 1, many - 1, many, many + 1, 60]))
+        self.assertGreater(len(told), 40)
+        self.assertIn(None, told)
+
+    def test_rings(self):
+        rng = random.Random(36)
+        told = set()
+        for _ in range(40):
+            many = rng.randint(1, 12)
+            net, names = self.row_of(rng, many, "abcdef"[:rng.randint(2, 6)], (many - 1, rng.randrange(many)))
+            entry = Entry(rng.choice(["fixed 719 to 719", "float 700 to 800", "day 1 to 2", f"zoned 719 to 720 {net.zones[0]}"]))
+            told.update(self.check(net, names[0], entry, [0, 1, many, many + 1, 2 * many, 37, 60]))
+        self.assertGreater(len(told), 30)
+
+    def test_sums_go_on_rising_in_rings(self):
+        names = "abcdefghijkl"
+        lines = [f"zone {zone} 0" for zone in "uvwxyz"]
+        for place, name in enumerate(names):
+            lines += [f"program {name} at {'uvwxyz'[place % 6]}", "  float -> fixed" if place % 2 else "  fixed -> float"]
+        ring = Net("\n".join(lines + [f"route {one} {other}" for one, other in zip(names, names[1:] + "a")]))
+        found = self.check(ring, "a", Entry("float 719 to 719"), [0, 1, 2, 3, 10, 11, 12, 13, 24, 59, 60])
+        self.assertEqual((found[0], found[-1]), (None, 719 // 30))
+        both = ring.with_route("f", "a").with_route("l", "f")
+        for n in (1, 6, 12, 18, 30):
+            self.check(both, "a", Entry("float 719 to 719"), [n])
+
+    def test_no_origin_ever_moves(self):
+        still = Net("\n".join(line for line in ROW.text.split("\n") if not line.startswith(" ")))
+        self.assertEqual(self.check(still, "pj", Entry("float 0 to 1439"), [0, 1, 9, 60]), [None] * 4)
+        same = Net(ROW.text.replace(" at e", " at b"))
+        self.assertEqual(self.check(same, "pj", LONG, [0, 1, 9, 60]), [None] * 4)
+        self.assertEqual(self.check(same, "pj", Entry("day 1 to 1"), [0, 60]), [None] * 2)
+        self.assertEqual(self.check(ROW, "pi", LONG, [0, 1, 60]), [None] * 3)
+
+    def test_it_is_told_soon(self):
+        self.assertLess(seconds(lambda: widest_after(ROW, "pj", LONG, 60)), 0.004)
+        self.assertEqual(widest_after(ROW, "pj", LONG, 60), 3)
 
 
 class ErrorsTest(unittest.TestCase):

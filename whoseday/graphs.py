@@ -71,7 +71,7 @@ def falling_ring(rows):
 
     It is found soon if most steps go to later nodes.
     """
-    order = range(len(rows))
+    order = list(range(len(rows)))
     costs = [0 for _ in rows]
     before = [None for _ in rows]
     fresh = [True for _ in rows]
@@ -186,7 +186,7 @@ def components(rows):
     back = backward(rows)
     groups = [None for _ in rows]
     found = []
-    order = _left_in_order(rows, range(len(rows)))[::-1]
+    order = _left_in_order(rows, list(range(len(rows))))[::-1]
     for root in order:
         if groups[root] is None:
             groups[root] = len(found)

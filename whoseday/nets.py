@@ -52,13 +52,13 @@ class Net:
         _need_offset(offset)
         if len(self.zones) >= MOST_ZONES:
             raise TooMany(MOST_ZONES)
-        return self._with_offsets({**self._offsets, name: offset})
+        return self.with_offsets({**self._offsets, name: offset})
 
     def with_offset(self, zone, offset):
         """The net with another offset of a zone."""
         self._need_zone(zone)
         _need_offset(offset)
-        return self._with_offsets({**self._offsets, zone: offset})
+        return self.with_offsets({**self._offsets, zone: offset})
 
     def with_program(self, name, home):
         """The net with one program more, which keeps all kinds."""
@@ -89,8 +89,7 @@ class Net:
         _need_kind(kind)
         if not is_rule(kind, rule):
             raise BadRule(rule)
-        rules = {**self._rules, (p, kind): rule}
-        return Net(net_text(self._offsets, self._homes, rules, self.routes))
+        return self.with_rules({(p, kind): rule})
 
     def with_route(self, p, q):
         """The net with one route more, if it lacks it."""
@@ -106,10 +105,19 @@ class Net:
         """The net without a route, if it has it."""
         self._need_program(p)
         self._need_program(q)
-        return self._with_routes([route for route in self.routes if route != (p, q)])
+        return self.without_routes([(p, q)])
 
-    def _with_offsets(self, offsets):
+    def with_offsets(self, offsets):
+        """The net with other zones and offsets, {zone: offset}, if it can have them."""
         return Net(net_text(offsets, self._homes, self._rules, self.routes))
+
+    def with_rules(self, rules):
+        """The net with other rules, {(program, kind): rule}, if it can have them."""
+        return Net(net_text(self._offsets, self._homes, {**self._rules, **rules}, self.routes))
+
+    def without_routes(self, routes):
+        """The net without some routes."""
+        return self._with_routes([route for route in self.routes if route not in routes])
 
     def _with_homes(self, homes):
         return Net(net_text(self._offsets, homes, self._rules, self.routes))

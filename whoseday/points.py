@@ -68,7 +68,11 @@ def clock_lead(net, p, kind, zone):
 
 def point_copy(net, q, kind, zone, end):
     """What the program q makes of a point: (kind, zone, minutes to add, whether it rounds)."""
-    rule = net.rule_of(q, kind)
+    return ruled_copy(net, q, kind, zone, end, net.rule_of(q, kind))
+
+
+def ruled_copy(net, q, kind, zone, end, rule):
+    """What the program q makes of a point by a rule for its kind."""
     home = net.home_of(q)
     if rule == KEEP:
         return kind, zone, 0, False

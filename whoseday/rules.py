@@ -10,6 +10,11 @@ RULES = {
     "zoned": ("own day", "home day", "own float", "home float", "as if", "moved", "fixed"),
     "fixed": ("day", "float", "zoned"),
 }
+# The kinds that rules make; other rules for clocks are called by the kind.
+MADE = {
+    "own day": "day", "home day": "day", "own float": "float", "home float": "float", "as if": "zoned",
+    "moved": "zoned",
+}
 
 
 def is_rule(kind, rule):
@@ -21,6 +26,13 @@ def is_rule(kind, rule):
     if kind == "day":
         return _is_day_rule(rule.split(" "))
     return rule in RULES[kind]
+
+
+def kind_made(kind, rule):
+    """The kind that a rule makes of a kind."""
+    if rule == KEEP:
+        return kind
+    return rule.partition(" ")[0] if kind == "day" else MADE.get(rule, rule)
 
 
 def _is_day_rule(words):

@@ -2,10 +2,11 @@
 
 from whoseday.copies import clock
 from whoseday.entries import DAY
-from whoseday.forms import Forms, day_makers, form_copy
-from whoseday.graphs import backward, falling_ring, kept_inside, least_costs, reached_from, short_way, traced
+from whoseday.forms import Forms, form_copy
+from whoseday.graphs import falling_ring, least_costs, short_way
 from whoseday.points import need_known
 from whoseday.rules import CLOCKED, LAST_MINUTE
+from whoseday.stretches import Stretches, costs_for, counted
 from whoseday.unknown import need_zone
 
 
@@ -31,25 +32,78 @@ class Origin:
         return min(self.first, LAST_MINUTE - self.first, self.last, LAST_MINUTE - self.last)
 
 
+class Course:
+    """What becomes of an entry at p over all walks, for all offsets: its forms, and its origins in their order.
+
+    births are tuples (origin, form, holder, copies): the number of the origin's
+    form, that of the form of the day of which it is made, or None, and the
+    least number of copies behind which it comes about.
+    """
+
+    def __init__(self, net, p, entry):
+        self._zones = net.zones
+        self._forms = Forms(net, [(p, entry.kind, entry.zone)], True)
+        self._stretches = None
+        self.births = []
+        born = self._born()
+        if entry.kind != "day":
+            first, last = clock(net, p, entry)
+            self.births.append((Origin(p, entry.kind, entry.zone, first % DAY, last % DAY), 0, None, 0))
+        for q in net.programs:
+            if q in born:
+                number, holder, copies = born[q]
+                kind, early, late = net.rule_of(q, "day").split(" ")
+                origin = Origin(q, kind, net.home_of(q) if kind == "zoned" else None, int(early), int(late))
+                self.births.append((origin, number, holder, copies))
+
+    def stretches(self):
+        """The Stretches of all forms with clocks."""
+        if self._stretches is None:
+            clocked = [[] if form[1] == "day" else row for form, row in zip(self._forms.found, self._forms.steps)]
+            self._stretches = Stretches(self._zones, clocked)
+        return self._stretches
+
+    def spread_births(self):
+        """The births, each with the spread of its origin."""
+        stretches = self.stretches()
+        return [(birth, stretches.spread_of(birth[1])) for birth in self.births]
+
+    def row_to(self, birth):
+        """The row of a walk by which an origin comes about."""
+        origin, _, holder, _ = birth
+        if holder is None:
+            return ()
+        return (*self._forms.row_on(short_way(self._forms.steps, 0, holder)), origin.program)
+
+    def row_on(self, way):
+        """The names of the programs to which the entry is copied on a way of forms."""
+        return self._forms.row_on(way)
+
+    def _born(self):
+        """For each program that makes clocks of days (form, holder, copies) as births tell them."""
+        # The forms are found by the number of copies to them.
+        copies = {0: 0}
+        born = {}
+        for number, row in enumerate(self._forms.steps):
+            for goal, _ in row:
+                copies.setdefault(goal, copies[number] + 1)
+                q, kind, _ = self._forms.found[goal]
+                if kind != "day" and self._forms.found[number][1] == "day":
+                    born.setdefault(q, (goal, number, copies[number] + 1))
+        return born
+
+
 def origins(net, p, entry):
     """The origins of an entry at p: the beginning first, unless it is a day, then the others."""
     need_known(net, p, entry)
-    found = []
-    if entry.kind != "day":
-        first, last = clock(net, p, entry)
-        found.append(Origin(p, entry.kind, entry.zone, first % DAY, last % DAY))
-    forms = Forms(net, [(p, entry.kind, entry.zone)], True)
-    for q in day_makers(net, forms.found):
-        kind, early, late = net.rule_of(q, "day").split(" ")
-        found.append(Origin(q, kind, net.home_of(q) if kind == "zoned" else None, int(early), int(late)))
-    return found
+    return [birth[0] for birth in Course(net, p, entry).births]
 
 
 def spread(net, p, kind, zone):
     """The greatest sum of all stretches for all sets of zones; None if there is no greatest one."""
     net.home_of(p)
     need_zone(net, kind, zone)
-    return spreads_of(net, [(p, kind, zone)])[0]
+    return Stretches(net.zones, Forms(net, [(p, kind, zone)], False).steps).spread_of(0)
 
 
 def sums(net, p, kind, zone, high):
@@ -59,7 +113,7 @@ def sums(net, p, kind, zone, high):
     for name in high:
         net.offset_of(name)
     forms = Forms(net, [(p, kind, zone)], False)
-    rows = form_costs(forms, high)
+    rows = costs_for(forms.steps, high)
     if falling_ring(rows) is not None:
         return None
     costs, _ = least_costs(rows, 0)
@@ -71,34 +125,16 @@ def spread_walk(net, p, kind, zone):
     net.home_of(p)
     need_zone(net, kind, zone)
     forms = Forms(net, [(p, kind, zone)], False)
-    best = (1, None, None)
-    for high in sets_of(net.zones):
-        rows = form_costs(forms, high)
-        ring = falling_ring(rows)
-        if ring is not None:
-            return high, forms.row_on(short_way(rows, 0, ring[0])), forms.row_on(ring)
-        costs, before = least_costs(rows, 0)
-        if min(costs) < best[0]:
-            best = (min(costs), high, traced(before, 0, costs.index(min(costs))))
-    return best[1], forms.row_on(best[2]), ()
+    high, way, ring = Stretches(net.zones, forms.steps).widest_way(0)
+    return high, forms.row_on(way), forms.row_on(ring)
 
 
 def spread_table(net):
     """The spreads of all programs and kinds with clocks; zoned is in the home of the program."""
     keys = [(p, kind) for p in net.programs for kind in CLOCKED]
     starts = [(p, kind, net.home_of(p) if kind == "zoned" else None) for p, kind in keys]
-    return {key: found for key, found in zip(keys, spreads_of(net, starts))}
-
-
-def spreads_of(net, starts):
-    """The spreads of some forms (program, kind, zone) with clocks, one after the other."""
-    forms = Forms(net, starts, False)
-    best = [0 for _ in forms.found]
-    for high in sets_of(net.zones):
-        for node, found in enumerate(_greatest(form_costs(forms, high))):
-            known = best[node]
-            best[node] = None if known is None or found is None else max(known, found)
-    return best[:len(starts)]
+    stretches = Stretches(net.zones, Forms(net, starts, False).steps)
+    return {key: stretches.spread_of(number) for number, key in enumerate(keys)}
 
 
 def stretch_sum(net, form, row, high):
@@ -110,39 +146,3 @@ def stretch_sum(net, form, row, high):
         total += counted(pair, high)
         p = q
     return total, (p, kind, zone)
-
-
-def counted(pair, high):
-    """What a copy with a pair of zones counts for a set of zones: 1, 0 or -1."""
-    if pair is None:
-        return 0
-    return int(pair[0] in high) - int(pair[1] in high)
-
-
-def form_costs(forms, high):
-    """The graph of forms in which a step costs what the copy counts, with the sign turned."""
-    return [[(index, -counted(pair, high)) for index, pair in row] for row in forms.steps]
-
-
-def sets_of(zones):
-    """All sets of zones, as tuples."""
-    found = [()]
-    for zone in zones:
-        found = found + [(*one, zone) for one in found]
-    return found
-
-
-def _greatest(rows):
-    """For each node the greatest sum of a way from it; None if there is none, as rings make it ever greater."""
-    bounded = [True for _ in rows]
-    left = rows
-    ring = falling_ring(left)
-    while ring is not None:
-        leading = reached_from(backward(rows), ring)
-        bounded = [was and not leads for was, leads in zip(bounded, leading)]
-        left = kept_inside(rows, bounded)
-        ring = falling_ring(left)
-    # One node more, from which all ways backward begin.
-    turned = backward(left)
-    costs, _ = least_costs([*turned, [(node, 0) for node in range(len(rows))]], len(rows))
-    return [-cost if ok else None for cost, ok in zip(costs, bounded)]

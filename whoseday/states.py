@@ -2,7 +2,7 @@
 
 from whoseday.entries import DAY
 from whoseday.errors import BadNumber, NoRoute, TooMany
-from whoseday.points import Copier, minutes_of, need_point
+from whoseday.points import clock_lead, minutes_of, need_point, ruled_copy
 from whoseday.words import is_integer
 
 MOST_STATES = 1000
@@ -14,11 +14,15 @@ class Leads:
     The states are numbered as they come up, the one to begin with by 0. Each
     answer is kept, as walks come together again. Here a state is told by one
     integer: DAY times the number of its form (program, kind, zone), and its rest.
+
+    If there are choices, copies of these choices tell what can be copied,
+    instead of the routes and the rules of the net.
     """
 
-    def __init__(self, net, p, entry, end):
+    def __init__(self, net, p, entry, end, choices=None):
         self._net = net
-        self._copier = Copier(net, end)
+        self._end = end
+        self._choices = choices
         self._forms = [(p, entry.kind, entry.zone)]
         self._form_numbers = {self._forms[0]: 0}
         # For each form what _copies_of tells, for each state what steps_from tells.
@@ -41,39 +45,50 @@ class Leads:
         return self._forms[self._states[number] // DAY][0]
 
     def steps_from(self, number):
-        """The tuples (number, days, name), one for each route: where a copy leads, and how far it moves the point."""
+        """The tuples (number, days, name), one for each route: where a copy leads, and how far it moves the point.
+
+        For choices there is one for each of them, with what it is told by in place of the name.
+        """
         if self._steps[number] is None:
-            self._steps[number] = self._new_steps(*divmod(self._states[number], DAY))
+            form, rest = divmod(self._states[number], DAY)
+            self._steps[number] = self._new_steps(form, rest)
         return self._steps[number]
 
     def _new_steps(self, form, rest):
         if self._copies[form] is None:
-            self._copies[form] = self._copies_of(*self._forms[form])
+            self._copies[form] = self._copies_of(self._forms[form])
         lead, copies = self._copies[form]
         ahead = (rest + lead) // DAY
         row = []
-        for goal, more, rounds, behind, q in copies:
+        for goal, more, rounds, behind, name in copies:
             minutes = rest + more
             state = DAY * goal + (0 if rounds else minutes % DAY)
             if state not in self._numbers:
                 self._numbers[state] = len(self._states)
                 self._states.append(state)
                 self._steps.append(None)
-            row.append((self._numbers[state], (minutes + behind) // DAY - ahead, q))
+            row.append((self._numbers[state], (minutes + behind) // DAY - ahead, name))
         return tuple(row)
 
-    def _copies_of(self, p, kind, zone):
-        """How far the clock at p is ahead of the minutes of such points, and what each copy makes of them."""
+    def _copies_of(self, form):
+        """How far the clock is ahead of the minutes of points of a form, and what each copy makes of them."""
+        p, kind, zone = form
         copies = []
-        for q in self._net.targets_of(p):
-            later, place, more, rounds = self._copier.effect(q, kind, zone)
-            form = (q, later, place)
-            if form not in self._form_numbers:
-                self._form_numbers[form] = len(self._forms)
-                self._forms.append(form)
+        for q, rule, name in self._rules_from(p, kind):
+            later, place, more, rounds = ruled_copy(self._net, q, kind, zone, self._end, rule)
+            goal = (q, later, place)
+            if goal not in self._form_numbers:
+                self._form_numbers[goal] = len(self._forms)
+                self._forms.append(goal)
                 self._copies.append(None)
-            copies.append((self._form_numbers[form], more, rounds, self._copier.lead(*form), q))
-        return self._copier.lead(p, kind, zone), copies
+            copies.append((self._form_numbers[goal], more, rounds, clock_lead(self._net, q, later, place), name))
+        return clock_lead(self._net, p, kind, zone), copies
+
+    def _rules_from(self, p, kind):
+        """Tuples (q, rule, name), one for each copy that can be made of a kind at p."""
+        if self._choices is not None:
+            return self._choices.copies(p, kind)
+        return [(q, self._net.rule_of(q, kind), q) for q in self._net.targets_of(p)]
 
 
 class States:

@@ -12,9 +12,7 @@ def as_shown(net, p, entry, offsets):
     need_known(net, p, entry)
     if not _is_assignment(net, offsets):
         raise BadOffsets(offsets)
-    other = net
-    for zone in net.zones:
-        other = other.with_offset(zone, offsets[zone])
+    other = net.with_offsets({zone: offsets[zone] for zone in net.zones})
     if entry.kind == "day":
         return other, entry
     more = clock_lead(net, p, entry.kind, entry.zone) - clock_lead(other, p, entry.kind, entry.zone)
