@@ -18,7 +18,7 @@ class Net:
         self.zones = tuple(parts.offsets)
         self.programs = tuple(parts.homes)
         self.routes = tuple(parts.routes)
-        self._targets = {p: tuple([goal for start, goal in self.routes if start == p]) for p in self.programs}
+        self._targets = _goals_by_start(self.programs, self.routes)
         self.text = net_text(parts.offsets, parts.homes, parts.rules, self.routes)
 
     def __eq__(self, other):
@@ -132,6 +132,14 @@ class Net:
     def _need_program(self, p):
         if not isinstance(p, str) or p not in self._homes:
             raise NoProgram(p)
+
+
+def _goals_by_start(programs, routes):
+    """For each program those to which routes lead from it, in their order."""
+    found = {p: [] for p in programs}
+    for start, goal in routes:
+        found[start].append(goal)
+    return {p: tuple(goals) for p, goals in found.items()}
 
 
 def _need_kind(kind):
