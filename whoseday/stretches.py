@@ -76,7 +76,7 @@ class Stretches:
         if self._sums is None:
             self._sums, _ = self.none_yet()
             # Without a ring that counts more than 0 no walk need have more copies than there are forms.
-            turns = len(self._sums) + 1
+            turns = len(self._rows) + 1
             self._rising = self._risen()
             while self._rising and turns > 0:
                 self._rising = self._risen()
@@ -86,7 +86,8 @@ class Stretches:
     def _risen(self):
         """Makes sums greater by one copy or more; for each form whose sums rise the tallies ahead of it and behind."""
         found = {}
-        for number in range(len(self._sums) - 1, -1, -1):
+        # Later forms first: most copies lead to them, and what they count is told at once then.
+        for number in range(len(self._rows) - 1, -1, -1):
             ahead = self._sums[number]
             best = self._best(self._sums, number)
             if best != ahead:

@@ -35,7 +35,7 @@ class Tallies:
 
     def reaches(self, tally, figure):
         """Tells whether a tally has a figure that is not less than this one."""
-        return ((tally | self.free) - figure * self.ones) & self.free != 0
+        return (((tally | self.free) - figure * self.ones) & self.free) != 0
 
     def greatest_of(self, tally):
         """The greatest figure of a tally, and the zones of its set."""
